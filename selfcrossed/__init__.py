@@ -1,0 +1,1 @@
+"""Selfcrossed: closed lines that cross themselves, told by rows of letters."""

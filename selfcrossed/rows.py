@@ -1,0 +1,190 @@
+"""Rows: strings in which each letter stands twice, read round."""
+
+from selfcrossed.errors import InvalidIndex, InvalidLetter, InvalidLetters, InvalidNumber, InvalidPlace, InvalidRow
+from selfcrossed.integers import is_from_to
+from selfcrossed.limits import MOST_LETTERS, MOST_LISTED
+
+ALPHABET = "abcdefghij"
+
+
+def is_row(value):
+    """Tell whether any value is a row."""
+    if not isinstance(value, str) or not 2 <= len(value) <= 2 * MOST_LETTERS:
+        return False
+    return all([sign in ALPHABET and value.count(sign) == 2 for sign in value])
+
+
+def letters(row):
+    """Give the letters of the row, ascending, as a string."""
+    check_row(row)
+    return letters_of(row)
+
+
+def places(row, letter):
+    """Give the pair of the letter's places, the earlier one first."""
+    check_row(row)
+    check_letter(row, letter)
+    return row.find(letter), row.rfind(letter)
+
+
+def begun(row, place):
+    """Give the row that begins at this place."""
+    check_row(row)
+    check_place(row, place)
+    return begun_from(row, place)
+
+
+def backwards(row):
+    """Give the row read backwards."""
+    check_row(row)
+    return row[::-1]
+
+
+def named(row, letters):
+    """Give the row with other letters, the k-th one of its own becoming the k-th one of these."""
+    check_row(row)
+    own = letters_of(row)
+    check_other_letters(letters, len(own))
+    others = dict(zip(own, letters))
+    return "".join([others[letter] for letter in row])
+
+
+def plain(row):
+    """Give the least row among those that are the same line."""
+    check_row(row)
+    return plain_of(row)
+
+
+def is_same(one, other):
+    """Tell whether both rows are the same line."""
+    check_row(one)
+    check_row(other)
+    return plain_of(one) == plain_of(other)
+
+
+def ways_to_itself(row):
+    """Count the ways to begin and to go that give the row but for other letters."""
+    check_row(row)
+    return ways_round(row).count(first_named(row))
+
+
+def count_rows(number):
+    """Count the rows with so many letters, these coming first in the order of the alphabet."""
+    check_number(number, MOST_LETTERS)
+    return count_ends(0, number)
+
+
+def nth_row(number, index):
+    """Give the row with this index among those that `count_rows` counts, ascending."""
+    check_number(number, MOST_LETTERS)
+    if not is_from_to(index, 0, count_ends(0, number) - 1):
+        raise InvalidIndex(index)
+    return row_at(number, index)
+
+
+def lines_of(number):
+    """Give the ascending tuple of all plain rows with so many letters."""
+    check_number(number, MOST_LISTED)
+    rows = [row_at(number, index) for index in range(count_ends(0, number))]
+    return tuple([row for row in rows if plain_of(row) == row])
+
+
+def check_row(row):
+    """Raise the error for what is no row."""
+    if not is_row(row):
+        raise InvalidRow(row)
+
+
+def check_letter(row, letter):
+    """Raise the error for what is no letter of the row."""
+    # The length is asked, too, as Python finds also longer strings and the empty one in a row.
+    if not isinstance(letter, str) or len(letter) != 1 or letter not in row:
+        raise InvalidLetter(letter)
+
+
+def check_place(row, place):
+    """Raise the error for what is no place of the row."""
+    if not is_from_to(place, 0, len(row) - 1):
+        raise InvalidPlace(place)
+
+
+def check_number(number, most):
+    """Raise the error for what is no number of letters from one to the most."""
+    if not is_from_to(number, 1, most):
+        raise InvalidNumber(number)
+
+
+def check_other_letters(others, number):
+    """Raise the error for what is no string of so many unlike letters of the alphabet."""
+    if not isinstance(others, str) or len(others) != number:
+        raise InvalidLetters(None)
+    for index, sign in enumerate(others):
+        if sign not in ALPHABET or sign in others[:index]:
+            raise InvalidLetters(index)
+
+
+def letters_of(row):
+    """Give the letters of what is known to be a row, ascending."""
+    return "".join(sorted(set(row)))
+
+
+def begun_from(row, place):
+    """Begin what is known to be a row at this place."""
+    return row[place:] + row[:place]
+
+
+def first_named(row):
+    """Give the row other letters, so that they come first in the order of the alphabet."""
+    others = {}
+    for letter in row:
+        if letter not in others:
+            others[letter] = ALPHABET[len(others)]
+    return "".join([others[letter] for letter in row])
+
+
+def ways_round(row):
+    """List what all ways to begin and to go make of the row, its letters named by `first_named`."""
+    ways = []
+    for place in range(len(row)):
+        way = begun_from(row, place)
+        ways.append(first_named(way))
+        ways.append(first_named(way[::-1]))
+    return ways
+
+
+def plain_of(row):
+    """Give the plain row of what is known to be a row."""
+    # Of all namings of one way round, the one by `first_named` is the least.
+    return min(ways_round(row))
+
+
+def count_ends(waiting, unused):
+    """Count the ways to end a row in which so many letters wait for their second place and so many are unused."""
+    ways = 1
+    # The waiting letters take any of the places left, one after the other.
+    for free in range(2 * unused + 1, 2 * unused + waiting + 1):
+        ways = ways * free
+    # Then the letter at the first free place takes any of the others with it, and so on.
+    for mates in range(1, 2 * unused, 2):
+        ways = ways * mates
+    return ways
+
+
+def row_at(number, index):
+    """Build the row with this index, the index being known to be right."""
+    row = []
+    waiting = []
+    ahead = index
+    for _ in range(2 * number):
+        used = (len(row) + len(waiting)) // 2
+        # A waiting letter comes ahead of a new one, and each leaves as many ways to go on.
+        each = count_ends(len(waiting) - 1, number - used) if waiting else 0
+        if ahead < each * len(waiting):
+            letter = waiting.pop(ahead // each)
+            ahead = ahead % each
+        else:
+            ahead = ahead - each * len(waiting)
+            letter = ALPHABET[used]
+            waiting.append(letter)
+        row.append(letter)
+    return "".join(row)

@@ -1,0 +1,1 @@
+"""The tests of selfcrossed, for `python3 -m unittest`."""

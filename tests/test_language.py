@@ -1,0 +1,199 @@
+"""Rules of LANGUAGE.md that can be seen in the code by simple means; the other ones are left to the reader."""
+
+import ast
+import builtins
+import io
+import pathlib
+import re
+import tokenize
+import unittest
+
+PACKAGE = pathlib.Path(__file__).resolve().parent.parent / "selfcrossed"
+FILES = sorted(PACKAGE.rglob("*.py"))
+LIBRARY = {
+    "heapq": {"heappush", "heappop", "heapify", "heapreplace", "heappushpop"},
+    "math": {"gcd", "lcm", "isqrt", "comb", "perm", "factorial"},
+    "itertools": {"product", "combinations", "permutations"},
+}
+BUILTINS = set(
+    "len range enumerate zip min max sum abs sorted reversed int str bool bytes list tuple dict set frozenset isinstance "
+    "ord repr any all divmod iter next map Exception ValueError TypeError KeyError IndexError LookupError "
+    "ZeroDivisionError ArithmeticError OverflowError RuntimeError NotImplementedError StopIteration "
+    "NotImplemented super property staticmethod classmethod object".split()
+)
+METHODS = set(
+    "append clear copy count endswith extend find get index insert isalnum isalpha isdigit islower isspace isupper items "
+    "join keys ljust lower lstrip partition pop remove replace reverse rfind rjust rpartition rsplit rstrip setdefault "
+    "split splitlines startswith strip update upper values zfill bit_length title capitalize swapcase casefold center "
+    "expandtabs removeprefix removesuffix rindex isascii isdecimal isnumeric istitle isidentifier isprintable translate "
+    "add discard sort maketrans".split()
+)
+BARRED_NAMES = set(
+    "register mro elements open input law version_info with_traceback add_note attrgetter breakpoint builtins compile "
+    "copyright credits delattr dir eval exec exit gc getattr globals hasattr help id importlib license locals "
+    "methodcaller os quit setattr type vars sys format format_map".split()
+)
+BARRED_WORDS = set(
+    "type typing typing_extensions enum Enum IntEnum StrEnum Flag IntFlag Generic Protocol ABC ABCMeta namedtuple "
+    "NamedTuple TypedDict TYPE_CHECKING abstractmethod dataclass overload contextmanager".split()
+)
+BARRED_NODES = (
+    ast.Global, ast.AsyncFunctionDef, ast.AsyncFor, ast.AsyncWith, ast.Await, ast.Import, ast.Div, ast.MatMult,
+    ast.MatchClass, ast.MatchMapping,
+)
+MODULE_LEVEL = (ast.ImportFrom, ast.FunctionDef, ast.ClassDef, ast.Assign)
+OWN_NAMES = {"__init__", "__eq__", "__enter__", "__exit__", "__contains__", "__all__", "__version__"}
+DECORATORS = re.compile(r"property|staticmethod|classmethod|\w+\.setter")
+
+
+def tree_of(file):
+    return ast.parse(file.read_text())
+
+
+def nodes_of(file, *kinds):
+    return [node for node in ast.walk(tree_of(file)) if isinstance(node, kinds)]
+
+
+def docstrings(file):
+    holders = nodes_of(file, ast.Module, ast.ClassDef, ast.FunctionDef)
+    return {ast.get_docstring(holder, clean=False) for holder in holders}
+
+
+def words_of(file):
+    """The words in a file but for its comments and docstrings."""
+    words = set()
+    told = docstrings(file)
+    for token in tokenize.generate_tokens(io.StringIO(file.read_text()).readline):
+        if token.type == tokenize.STRING and ast.literal_eval(token.string) in told:
+            continue
+        if token.type != tokenize.COMMENT:
+            words.update(re.findall(r"\w+", token.string))
+    return words
+
+
+def bound_names(file):
+    """The names that a file gives to functions, classes, parameters and variables."""
+    names = [node.name for node in nodes_of(file, ast.FunctionDef, ast.ClassDef)]
+    names += [node.arg for node in nodes_of(file, ast.arg)]
+    names += [node.id for node in nodes_of(file, ast.Name) if isinstance(node.ctx, ast.Store)]
+    return names
+
+
+def imports_of(file):
+    return {node.module for node in nodes_of(file, ast.ImportFrom) if node.module.startswith("selfcrossed")}
+
+
+def for_each_file(check):
+    def check_all(self):
+        for file in FILES:
+            with self.subTest(file.name):
+                check(self, file)
+    return check_all
+
+
+class Language(unittest.TestCase):
+    def test_files(self):
+        others = [path.name for path in PACKAGE.rglob("*") if path.suffix != ".py" and "__pycache__" not in path.parts]
+        self.assertEqual(others, [])
+        self.assertIn(PACKAGE / "__init__.py", FILES)
+        for file in FILES:
+            self.assertRegex(file.name, r"^[a-z0-9_]+\.py$")
+
+    @for_each_file
+    def test_characters_and_sizes(self, file):
+        text = file.read_bytes().decode("ascii")
+        self.assertEqual([sign for sign in text if sign != "\n" and not " " <= sign <= "~"], [])
+        self.assertLessEqual(text.count("\n"), 399)
+        self.assertLessEqual(max([len(line) for line in text.split("\n")]), 120)
+        for node in nodes_of(file, ast.FunctionDef):
+            self.assertLessEqual(node.end_lineno - node.lineno + 1, 40, node.name)
+
+    @for_each_file
+    def test_imports(self, file):
+        for node in nodes_of(file, ast.ImportFrom):
+            names = {alias.name for alias in node.names}
+            self.assertEqual(node.level, 0)
+            if node.module in LIBRARY:
+                self.assertLessEqual(names, LIBRARY[node.module])
+                self.assertEqual([alias.asname for alias in node.names if alias.asname], [])
+            else:
+                self.assertRegex(node.module, r"^selfcrossed\.\w+$")
+                told = tree_of(PACKAGE / (node.module.split(".")[1] + ".py")).body
+                defined = {each.name for each in told if isinstance(each, (ast.FunctionDef, ast.ClassDef))}
+                defined |= {each.targets[0].id for each in told if isinstance(each, ast.Assign)}
+                self.assertLessEqual(names, defined)
+
+    def test_no_rounds_of_imports(self):
+        left = {f"selfcrossed.{file.stem}": imports_of(file) for file in FILES}
+        while left:
+            ready = [name for name in left if not left[name] & set(left)]
+            self.assertNotEqual(ready, [], f"these import one another: {sorted(left)}")
+            left = {name: left[name] for name in left if name not in ready}
+
+    @for_each_file
+    def test_module_level(self, file):
+        names = []
+        for node in tree_of(file).body:
+            if isinstance(node, ast.Expr):
+                self.assertIsInstance(ast.literal_eval(node.value), str)
+                continue
+            self.assertIsInstance(node, MODULE_LEVEL)
+            if isinstance(node, ast.ImportFrom):
+                names += [alias.asname or alias.name for alias in node.names]
+            elif isinstance(node, ast.Assign):
+                names += [target.id for target in node.targets]
+                self.assertEqual(len(node.targets), 1)
+            else:
+                names.append(node.name)
+        self.assertEqual(len(names), len(set(names)), "a name is bound twice")
+
+    @for_each_file
+    def test_statements_and_signs(self, file):
+        self.assertEqual([node.lineno for node in nodes_of(file, *BARRED_NODES)], [])
+        # Classes with an order or `__eq__` bar most generator expressions, so lists are taken everywhere.
+        self.assertEqual([node.lineno for node in nodes_of(file, ast.GeneratorExp)], [])
+        for node in nodes_of(file, ast.Constant):
+            self.assertNotIsInstance(node.value, (float, complex))
+            self.assertFalse(isinstance(node.value, str) and "%" in node.value)
+        for node in nodes_of(file, ast.FunctionDef, ast.ClassDef):
+            for decorator in node.decorator_list:
+                self.assertRegex(ast.unparse(decorator), DECORATORS)
+        for node in nodes_of(file, ast.ExceptHandler):
+            self.assertIsNotNone(node.type)
+        for node in nodes_of(file, ast.Compare):
+            for operator, side in zip(node.ops, node.comparators):
+                if isinstance(operator, (ast.Is, ast.IsNot)):
+                    self.assertIn(ast.unparse(side), ("None", "True", "False"))
+
+    @for_each_file
+    def test_names(self, file):
+        methods = {each.name for holder in nodes_of(file, ast.ClassDef) for each in holder.body if hasattr(each, "name")}
+        for name in bound_names(file):
+            self.assertNotIn(name, BARRED_NAMES | {"iter", "next", "map"})
+            self.assertTrue(re.fullmatch(r"_?[A-Za-z][A-Za-z0-9_]*|_", name) or name in OWN_NAMES, name)
+            self.assertFalse(hasattr(builtins, name) and name not in methods, name)
+        for node in nodes_of(file, ast.Attribute):
+            self.assertNotIn(node.attr, BARRED_NAMES)
+        self.assertEqual(words_of(file) & BARRED_WORDS, set())
+
+    @for_each_file
+    def test_builtins(self, file):
+        bound = set(bound_names(file))
+        for node in nodes_of(file, ast.Name):
+            if hasattr(builtins, node.id) and node.id not in bound:
+                self.assertIn(node.id, BUILTINS)
+
+    @for_each_file
+    def test_methods_of_builtin_values(self, file):
+        own = {node.name for file in FILES for node in nodes_of(file, ast.FunctionDef)}
+        for node in nodes_of(file, ast.Call):
+            if isinstance(node.func, ast.Attribute):
+                self.assertIn(node.func.attr, METHODS | own)
+
+    @for_each_file
+    def test_no_name_of_an_import_or_a_class_is_given_again(self, file):
+        held = {alias.name for node in nodes_of(file, ast.ImportFrom) for alias in node.names}
+        held |= {node.name for node in nodes_of(file, ast.ClassDef)}
+        given = [node.arg for node in nodes_of(file, ast.arg)]
+        given += [node.id for node in nodes_of(file, ast.Name) if isinstance(node.ctx, ast.Store)]
+        self.assertEqual(held & set(given), set())
