@@ -1,6 +1,8 @@
 """Rows: strings in which each letter stands twice, read round."""
 
-from selfcrossed.errors import InvalidIndex, InvalidLetter, InvalidLetters, InvalidNumber, InvalidPlace, InvalidRow
+from selfcrossed.errors import (
+    InvalidIndex, InvalidLetter, InvalidLetters, InvalidNumber, InvalidPlace, InvalidRow, TooMany,
+)
 from selfcrossed.integers import is_from_to
 from selfcrossed.limits import MOST_LETTERS, MOST_LISTED
 
@@ -112,6 +114,12 @@ def check_number(number, most):
     """Raise the error for what is no number of letters from one to the most."""
     if not is_from_to(number, 1, most):
         raise InvalidNumber(number)
+
+
+def check_size(row, most):
+    """Raise the error for what is a row of more than the most letters."""
+    if len(row) > 2 * most:
+        raise TooMany(most)
 
 
 def check_other_letters(others, number):

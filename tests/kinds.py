@@ -86,6 +86,27 @@ def no_integers_from_to(least, most):
     return no_strings_or_integers() + some_strings() + ["1", "aa"] + outside
 
 
+def no_letters_of(row):
+    """List values of every kind that are no letters of the row."""
+    strings = ["ab", "ba", "aa", "a ", " a", "a\n", "abcdefghij", row, row[:2]]
+    others = [letter for letter in "abcdefghij" if letter not in row]
+    return no_strings_or_integers() + some_strings() + some_integers() + strings + others
+
+
+def no_signs_of(kinds, number):
+    """List values of every kind that are no string of so many of these signs."""
+    first, last = kinds[0], kinds[-1]
+    strings = [first * (number - 1), last * (number + 1), first * (number - 1) + " ", " " + last * (number - 1)]
+    strings += [first * (number - 1) + "\n", "a" + last * (number - 1), first * 2 * number, first * (number - 1) + "0"]
+    tuples = [tuple(first * number), [first * number], (first * number).encode(), {first * number: 1}]
+    return no_strings_or_integers() + no_signs_in(kinds) + some_integers() + strings + tuples
+
+
+def no_signs_in(kinds):
+    """List strings that have other signs than these."""
+    return [text for text in some_strings() if not text or [sign for sign in text if sign not in kinds]]
+
+
 def raised(action, arguments, names=None):
     """Call the action, by position or with these names, and give the error that it raises, None if none."""
     try:
@@ -96,3 +117,16 @@ def raised(action, arguments, names=None):
     except Exception as error:
         return error
     return None
+
+
+class LikeDrawing:
+    """An object that has all that a drawing has, but is none."""
+
+    row, sides, outside, regions, size, text = "aa", "+", (-1,), ((-2, 0), (-1,), (1,)), 1, "aa + -1"
+
+
+def no_drawings():
+    """List values of every kind that are no drawings."""
+    strings = ["aa", "abcabc", "aa + -1", "abcabc +-+ -5"]
+    others = [("aa", "+", -1), ["aa", "+", -1], ("aa", "+", (-1,)), LikeDrawing(), LikeDrawing]
+    return no_strings_or_integers() + some_strings() + some_integers() + strings + others

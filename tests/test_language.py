@@ -59,12 +59,17 @@ def docstrings(file):
     return {ast.get_docstring(holder, clean=False) for holder in holders}
 
 
+def is_in_docstrings(text, told):
+    """Whether a string as it is written is one of the docstrings; before Python 3.12 f-strings come as strings, too."""
+    return "f" not in text.partition(text[-1])[0] and ast.literal_eval(text) in told
+
+
 def words_of(file):
     """The words in a file but for its comments and docstrings."""
     words = set()
     told = docstrings(file)
     for token in tokenize.generate_tokens(io.StringIO(file.read_text()).readline):
-        if token.type == tokenize.STRING and ast.literal_eval(token.string) in told:
+        if token.type == tokenize.STRING and is_in_docstrings(token.string, told):
             continue
         if token.type != tokenize.COMMENT:
             words.update(re.findall(r"\w+", token.string))
@@ -123,6 +128,11 @@ class Language(unittest.TestCase):
                 defined |= {each.targets[0].id for each in told if isinstance(each, ast.Assign)}
                 self.assertLessEqual(names, defined)
 
+    @for_each_file
+    def test_what_is_imported_is_used(self, file):
+        imported = {alias.name for node in nodes_of(file, ast.ImportFrom) for alias in node.names}
+        self.assertLessEqual(imported, {node.id for node in nodes_of(file, ast.Name)})
+
     def test_no_rounds_of_imports(self):
         left = {f"selfcrossed.{file.stem}": imports_of(file) for file in FILES}
         while left:
@@ -171,7 +181,8 @@ class Language(unittest.TestCase):
         for name in bound_names(file):
             self.assertNotIn(name, BARRED_NAMES | {"iter", "next", "map"})
             self.assertTrue(re.fullmatch(r"_?[A-Za-z][A-Za-z0-9_]*|_", name) or name in OWN_NAMES, name)
-            self.assertFalse(hasattr(builtins, name) and name not in methods, name)
+            # Python's own `_` is but what doctest leaves behind.
+            self.assertFalse(hasattr(builtins, name) and name not in methods and name != "_", name)
         for node in nodes_of(file, ast.Attribute):
             self.assertNotIn(node.attr, BARRED_NAMES)
         self.assertEqual(words_of(file) & BARRED_WORDS, set())

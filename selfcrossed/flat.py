@@ -1,0 +1,153 @@
+"""Rows with sides: the regions of the drawing, its handles, and which rows are flat."""
+
+from selfcrossed.errors import InvalidSides
+from selfcrossed.links import count_in_both, linked_of
+from selfcrossed.rows import check_row, letters_of
+from selfcrossed.strings import all_strings
+from selfcrossed.walks import leaving, walks_of
+
+
+def regions(row, sides):
+    """Give the ascending tuple of the regions of the row with these sides."""
+    check_row(row)
+    check_sides(row, sides)
+    return tuple(regions_of(row, sides))
+
+
+def handles(row, sides):
+    """Give the number of handles of the row with these sides."""
+    check_row(row)
+    check_sides(row, sides)
+    return handles_of(row, sides)
+
+
+def is_flat(row):
+    """Tell whether some sides of the row have no handles."""
+    check_row(row)
+    # A mirror has as many handles, so that the first letter's side may be chosen.
+    for sides in all_strings("+-", len(row) // 2 - 1):
+        if handles_of(row, "+" + sides) == 0:
+            return True
+    return False
+
+
+def flat_sides(row):
+    """Give the ascending tuple of all sides without handles."""
+    check_row(row)
+    return tuple(flat_sides_of(row))
+
+
+def flat_by_links(row):
+    """Tell whether the row is flat, asked by its links alone."""
+    check_row(row)
+    linked = linked_of(row)
+    return first_odd_letter(linked) is None and first_odd_pair(linked) is None and odd_round(linked) is None
+
+
+def why_not(row):
+    """Give what tells by links that the row is not flat, None for a flat one."""
+    check_row(row)
+    linked = linked_of(row)
+    letter = first_odd_letter(linked)
+    if letter is not None:
+        return letter
+    pair = first_odd_pair(linked)
+    if pair is not None:
+        return pair
+    return odd_round(linked)
+
+
+def is_sides(row, value):
+    """Tell whether any value is a string of sides for what is known to be a row."""
+    if not isinstance(value, str) or 2 * len(value) != len(row):
+        return False
+    return all([sign in "+-" for sign in value])
+
+
+def check_sides(row, sides):
+    """Raise the error for what is no string of sides for the row."""
+    if not is_sides(row, sides):
+        raise InvalidSides(sides)
+
+
+def onward_of(row, sides):
+    """List for each element the one that is gone along behind it so that a region is kept to the left."""
+    onward = [0] * (2 * len(row))
+    for letter, side in zip(letters_of(row), sides):
+        around = leaving(row, letter)
+        if side == "-":
+            around[1], around[3] = around[3], around[1]
+        for index in range(4):
+            # One comes along a half edge against the way in which one leaves by it, and goes on by the next one.
+            onward[-1 - around[index]] = around[index - 1]
+    return onward
+
+
+def regions_of(row, sides):
+    """List the regions, ascending, of what is known to be a row with sides."""
+    return walks_of(onward_of(row, sides))
+
+
+def handles_of(row, sides):
+    """Give the number of handles of what is known to be a row with sides."""
+    return (len(row) // 2 + 2 - len(regions_of(row, sides))) // 2
+
+
+def flat_sides_of(row):
+    """List all sides without handles, ascending, of what is known to be a row."""
+    return [sides for sides in all_strings("+-", len(row) // 2) if handles_of(row, sides) == 0]
+
+
+def first_odd_letter(linked):
+    """Give the first letter that is linked with oddly many, None if there is none."""
+    for letter in linked:
+        if len(linked[letter]) & 1 == 1:
+            return letter
+    return None
+
+
+def first_odd_pair(linked):
+    """Give the first two letters, not linked, that have oddly many letters linked with both, None if there are none."""
+    for letter in linked:
+        for other in linked:
+            if letter < other and other not in linked[letter]:
+                if count_in_both(linked[letter], linked[other]) & 1 == 1:
+                    return letter + other
+    return None
+
+
+def odd_round(linked):
+    """Give a round of linked letters that tells that they cannot be parted in two lots, None if they can.
+
+    Two linked letters belong to unlike lots if evenly many letters are linked with both, otherwise to one lot.
+    """
+    lots = {}
+    back = {}
+    for start in linked:
+        if start in lots:
+            continue
+        lots[start] = 0
+        back[start] = ""
+        reached = [start]
+        index = 0
+        while index < len(reached):
+            letter = reached[index]
+            index += 1
+            for other in linked[letter]:
+                lot = (lots[letter] + 1 + count_in_both(linked[letter], linked[other])) & 1
+                if other not in lots:
+                    lots[other] = lot
+                    back[other] = back[letter] + letter
+                    reached.append(other)
+                elif lots[other] != lot:
+                    return round_of(back[letter] + letter, back[other] + other)
+    return None
+
+
+def round_of(one, other):
+    """Give the round that two ways from one start make, whose last letters are linked."""
+    shared = 0
+    while one[:shared + 1] == other[:shared + 1]:
+        shared += 1
+    # The last letter of the way shared belongs to the round, once.
+    return one[shared - 1:] + other[shared:][::-1]

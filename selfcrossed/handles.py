@@ -1,0 +1,79 @@
+"""Handles: how many the sides of a row can have."""
+
+from selfcrossed.errors import InvalidNumber
+from selfcrossed.flat import check_sides, handles_of, regions_of
+from selfcrossed.integers import is_from_to
+from selfcrossed.limits import MOST_LETTERS, MOST_SIDES
+from selfcrossed.rows import check_row, check_size
+from selfcrossed.strings import all_strings
+
+
+def least_handles(row):
+    """Give the least number of handles that sides of the row have."""
+    check_row(row)
+    check_size(row, MOST_SIDES)
+    return min(all_handles(row))
+
+
+def greatest_handles(row):
+    """Give the greatest number of handles that sides of the row have."""
+    check_row(row)
+    check_size(row, MOST_SIDES)
+    return max(all_handles(row))
+
+
+def handles_spread(row):
+    """Give, for each number from 0 to the greatest one, how many sides have so many handles."""
+    check_row(row)
+    check_size(row, MOST_SIDES)
+    numbers = all_handles(row)
+    return tuple([numbers.count(number) for number in range(max(numbers) + 1)])
+
+
+def first_sides(row, number):
+    """Give the first sides with so many handles, None if there are none."""
+    check_row(row)
+    if not is_from_to(number, 0, MOST_LETTERS):
+        raise InvalidNumber(number)
+    check_size(row, MOST_SIDES)
+    for sides in all_strings("+-", len(row) // 2):
+        if handles_of(row, sides) == number:
+            return sides
+    return None
+
+
+def one_region(row):
+    """Give the first sides of which the drawing has just one region, None if there are none."""
+    check_row(row)
+    check_size(row, MOST_SIDES)
+    for sides in all_strings("+-", len(row) // 2):
+        if len(regions_of(row, sides)) == 1:
+            return sides
+    return None
+
+
+def two_shades(row, sides):
+    """Tell whether the regions can be given two shades, unlike ones on both sides of each edge."""
+    check_row(row)
+    check_sides(row, sides)
+    region_at = {element: region for region in regions_of(row, sides) for element in region}
+    # Each region gets the shade that the regions beside it ask for, from one of them on.
+    shades = {region_at[0]: 0}
+    reached = [region_at[0]]
+    index = 0
+    while index < len(reached):
+        region = reached[index]
+        index += 1
+        for element in region:
+            beside = region_at[-1 - element]
+            if beside not in shades:
+                shades[beside] = 1 - shades[region]
+                reached.append(beside)
+            elif shades[beside] == shades[region]:
+                return False
+    return True
+
+
+def all_handles(row):
+    """List the numbers of handles of all sides of what is known to be a row."""
+    return [handles_of(row, sides) for sides in all_strings("+-", len(row) // 2)]

@@ -1,0 +1,47 @@
+"""Walks along edges, the k-th edge being told as k forwards and as -1 - k backwards.
+
+What is told for each of these elements is kept in a list of twice as many items as there are edges: Python counts
+indexes below 0 from the end, so that each element is an index of its own.
+"""
+
+
+def edge_of(element):
+    """Give the edge that is gone along."""
+    return element if element >= 0 else -1 - element
+
+
+def gone_as(edge, element):
+    """Give the element that goes along the edge the way in which the other element goes along its own."""
+    return edge if element >= 0 else -1 - edge
+
+
+def end_of(element, size):
+    """Give the place to which the element leads, in a row of so many places."""
+    return (element + 1) % size if element >= 0 else -1 - element
+
+
+def leaving(row, letter):
+    """List the elements that leave a letter: out of its earlier place, out of its later one, back out of both."""
+    size = len(row)
+    earlier, later = row.find(letter), row.rfind(letter)
+    return [earlier, later, -1 - (earlier - 1) % size, -1 - (later - 1) % size]
+
+
+def walks_of(onward):
+    """List the walks that close, ascending, each one from its least element on.
+
+    `onward` tells for each element the one that is gone along behind it.
+    """
+    half = len(onward) // 2
+    gone = [False] * len(onward)
+    walks = []
+    for first in range(-half, half):
+        walk = []
+        element = first
+        while not gone[element]:
+            gone[element] = True
+            walk.append(element)
+            element = onward[element]
+        if walk:
+            walks.append(tuple(walk))
+    return walks

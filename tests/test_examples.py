@@ -1,0 +1,55 @@
+"""The examples of the document, as they stand there, one after the other in one and the same room of names."""
+
+import doctest
+import unittest
+
+ROWS = """
+>>> from selfcrossed.rows import backwards, begun, count_rows, is_row, is_same, letters, lines_of, named, nth_row, places, plain, ways_to_itself
+>>> [is_row("abab"), is_row("aab"), letters("cbcb"), places("cbcb", "b"), begun("abacbc", 2), backwards("aabb"), named("cbcb", "ab"), plain("cbacab")]
+[True, False, 'bc', (1, 3), 'acbcab', 'bbaa', 'baba', 'abacbc']
+>>> [is_same("abba", "aabb"), ways_to_itself("abcabc"), ways_to_itself("aabb"), count_rows(3), nth_row(2, 1), lines_of(2), lines_of(3)]
+[True, 12, 4, 15, 'abab', ('aabb', 'abab'), ('aabbcc', 'aabcbc', 'aabccb', 'abacbc', 'abcabc')]
+"""
+LINKS = """
+>>> from selfcrossed.links import alike_rows, are_linked, between, bunches, hang_alike, linked_with, links, put_in, rank, table
+>>> [are_linked("abab", "a", "b"), links("abacbc"), bunches("aabcbc"), linked_with("abcabc", "a"), between("abacbc", "b"), put_in("aa", 1, "baab"), table("abacbc"), rank("abacbc")]
+[True, ('ab', 'bc'), ('a', 'bc'), 'bc', 'ac', 'abccba', ((0, 1, 0), (1, 0, 1), (0, 1, 0)), 2]
+>>> [hang_alike("aabb", "abba"), hang_alike("abab", "aabb"), alike_rows("aabb")]
+[True, False, ('aabb',)]
+"""
+FLAT = """
+>>> from selfcrossed.flat import flat_by_links, flat_sides, handles, is_flat, regions, why_not
+>>> [regions("aa", "+"), handles("abab", "++"), handles("abcabc", "+-+"), is_flat("abcabc"), flat_sides("abcabc"), flat_sides("abba"), flat_by_links("abacbc")]
+[((-2, 0), (-1,), (1,)), 1, 0, True, ('+-+', '-+-'), ('++', '+-', '-+', '--'), False]
+>>> [why_not("abab"), why_not("abcabdecde"), why_not("aabb"), regions("abab", "+-")]
+['a', 'ad', None, ((-4, -1, -2, 3, 2, 1), (-3, 0))]
+"""
+HANDLES = """
+>>> from selfcrossed.handles import first_sides, greatest_handles, handles_spread, least_handles, one_region, two_shades
+>>> [least_handles("abab"), greatest_handles("abacbc"), handles_spread("abcabc"), handles_spread("abacbc"), first_sides("abcabc", 0), first_sides("abab", 0), one_region("abab"), two_shades("aa", "+"), two_shades("abab", "++")]
+[1, 2, (2, 6), (0, 4, 4), '+-+', None, None, True, False]
+"""
+DRAWINGS = """
+>>> from selfcrossed.drawings import Drawing, are_same, begun_at, count_drawings, drawings_of, is_own_mirror, mirror, plain_drawing, turned_out, walked_back
+>>> eight = Drawing("aa", "+", 0)
+>>> curl = Drawing("aa", "+", -1)
+>>> [eight.text, eight.outside, curl.text, curl.regions, Drawing.read("aa + -1") == curl, walked_back(curl).text, plain_drawing(walked_back(curl)).text, are_same(eight, mirror(eight)), is_own_mirror(curl)]
+['aa + -2', (-2, 0), 'aa + -1', ((-2, 0), (-1,), (1,)), True, 'aa - 0', 'aa + -1', True, True]
+>>> [turned_out(curl, (1,)).text, begun_at(curl, 1).text, count_drawings(1), count_drawings(2), len(drawings_of("abcabc")), drawings_of("abcabc")[1].text]
+['aa + 1', 'aa - -2', 2, 5, 2, 'abcabc +-+ -6']
+"""
+PARTS = {"rows": ROWS, "links": LINKS, "flat": FLAT, "handles": HANDLES, "drawings": DRAWINGS}
+
+
+class Examples(unittest.TestCase):
+    def test_all(self):
+        known = {}
+        for name, text in PARTS.items():
+            with self.subTest(name):
+                test = doctest.DocTestParser().get_doctest(text, known, name, None, 0)
+                self.assertGreater(len(test.examples), 1)
+                told = []
+                runner = doctest.DocTestRunner(verbose=False)
+                runner.run(test, out=told.append, clear_globs=False)
+                self.assertEqual("".join(told), "")
+                known.update(test.globs)

@@ -1,0 +1,79 @@
+"""The names of the interface and the names of their parameters."""
+
+import importlib
+import inspect
+import pathlib
+import unittest
+
+PACKAGE = pathlib.Path(__file__).resolve().parent.parent / "selfcrossed"
+FUNCTIONS = {
+    "rows": {
+        "is_row": "value", "letters": "row", "places": "row letter", "begun": "row place", "backwards": "row",
+        "named": "row letters", "plain": "row", "is_same": "one other", "ways_to_itself": "row", "count_rows": "number",
+        "nth_row": "number index", "lines_of": "number",
+    },
+    "links": {
+        "are_linked": "row letter other", "links": "row", "bunches": "row", "linked_with": "row letter",
+        "between": "row letter", "put_in": "row place other", "hang_alike": "one other", "alike_rows": "row",
+        "table": "row", "rank": "row",
+    },
+    "flat": {
+        "regions": "row sides", "handles": "row sides", "is_flat": "row", "flat_sides": "row", "flat_by_links": "row",
+        "why_not": "row",
+    },
+    "handles": {
+        "least_handles": "row", "greatest_handles": "row", "handles_spread": "row", "first_sides": "row number",
+        "one_region": "row", "two_shades": "row sides",
+    },
+    "drawings": {
+        "begun_at": "drawing place", "walked_back": "drawing", "mirror": "drawing", "turned_out": "drawing region",
+        "plain_drawing": "drawing", "are_same": "one other", "is_own_mirror": "drawing", "drawings_of": "row",
+        "count_drawings": "number",
+    },
+}
+CLASSES = {
+    "drawings": {
+        "Drawing": {
+            "parameters": "row sides outside", "methods": {"read": "text"},
+            "properties": "row sides outside regions size text",
+        },
+    },
+}
+
+
+def parameters(function):
+    return " ".join(inspect.signature(function).parameters)
+
+
+class Interface(unittest.TestCase):
+    def test_functions(self):
+        for name, told in FUNCTIONS.items():
+            module = importlib.import_module(f"selfcrossed.{name}")
+            for function, names in told.items():
+                with self.subTest(function):
+                    self.assertEqual(parameters(getattr(module, function)), names)
+                    self.assertEqual(getattr(module, function).__module__, f"selfcrossed.{name}")
+                    self.assertIn(f"\ndef {function}(", (PACKAGE / f"{name}.py").read_text())
+
+    def test_parameters_go_by_position_and_by_name(self):
+        for name, told in FUNCTIONS.items():
+            module = importlib.import_module(f"selfcrossed.{name}")
+            for function in told:
+                for parameter in inspect.signature(getattr(module, function)).parameters.values():
+                    self.assertEqual(parameter.kind, parameter.POSITIONAL_OR_KEYWORD)
+                    self.assertIs(parameter.default, parameter.empty)
+
+    def test_classes(self):
+        for name, classes in CLASSES.items():
+            module = importlib.import_module(f"selfcrossed.{name}")
+            for kind, told in classes.items():
+                with self.subTest(kind):
+                    found = getattr(module, kind)
+                    self.assertEqual(found.__module__, f"selfcrossed.{name}")
+                    self.assertEqual(parameters(found), told["parameters"])
+                    for method, names in told["methods"].items():
+                        self.assertIn(method, vars(found))
+                        self.assertEqual(parameters(getattr(found, method)), names)
+                    for each in told["properties"].split():
+                        self.assertIsInstance(vars(found)[each], property)
+                        self.assertIsNone(vars(found)[each].fset)
