@@ -38,7 +38,39 @@ DRAWINGS = """
 >>> [turned_out(curl, (1,)).text, begun_at(curl, 1).text, count_drawings(1), count_drawings(2), len(drawings_of("abcabc")), drawings_of("abcabc")[1].text]
 ['aa + 1', 'aa - -2', 2, 5, 2, 'abcabc +-+ -6']
 """
-PARTS = {"rows": ROWS, "links": LINKS, "flat": FLAT, "handles": HANDLES, "drawings": DRAWINGS}
+NUMBERS = """
+>>> from selfcrossed.numbers import area, letter_numbers, least_same_way, most_turns, on_a_ball, opposite_way, outsides_with, region_numbers, rings, same_way, signs, standard, three_ways, turns, turns_spread, twice_mean
+>>> three = Drawing("abcabc", "+-+", -5)
+>>> [region_numbers(curl), letter_numbers(curl), signs(curl, 0), signs(curl, 1), twice_mean(curl, 0), twice_mean(curl, 1), turns(curl), same_way(curl), opposite_way(curl), three_ways(curl), on_a_ball(curl)]
+[(1, 0, 2), (1,), (1,), (-1,), 1, 3, 2, -2, -3, 1, 0]
+>>> [region_numbers(three), turns(three), same_way(three), opposite_way(three), three_ways(three), on_a_ball(three), area(curl, (1, 5, 2)), rings(curl), turns(eight), three_ways(eight)]
+[(1, 0, 1, 1, 2), 2, 0, -3, 1, 2, 5, ((0,), (1,)), 0, 0]
+>>> [most_turns("aa"), least_same_way("aa"), turns_spread("aa"), outsides_with(curl, 2), standard(0).text, standard(3).text, standard(-3).text]
+[2, -2, ((-2, 2), (0, 2), (2, 2)), ((-1,),), 'aa + -2', 'aabb +- -1', 'aabb ++ 1']
+"""
+MOVES = """
+>>> from selfcrossed.moves import back, by_threes, changes_of, done, fewest_moves, ins, is_move, least_moves_of, led, loosened, outs, without_loops
+>>> [done(curl, ("loop", 0, "l")).text, changes_of(curl, ("loop", 0, "l")), done(curl, ("pair", 0, -2, 0)).text, changes_of(curl, ("pair", 0, -2, 0)), is_move(curl, ("no loop", "a")), outs(eight)]
+['abba +- -3', (1, 1, -2, -3, 1), 'abcabc +-+ -5', (2, 0, 2, 0, 0), False, ()]
+>>> [led(curl, (("loop", 0, "l"), ("no loop", "b"))) == curl, least_moves_of(curl, three), least_moves_of(curl, eight), fewest_moves(curl, three, 3), without_loops(curl, three, 3), without_loops(curl, eight, 3)]
+[True, (1, 0, 0), None, 1, 1, None]
+"""
+TURNINGS = """
+>>> from selfcrossed.turnings import all_against, all_along, count_rounds, count_tours, one_web, rounds, rounds_by_table, tour, tours, tours_along, turnings_between
+>>> [count_rounds("abcabc", "ooo"), rounds("abcabc", "ooo"), rounds_by_table("abcabc", "xxx"), tour("abcabc", "oo="), tour("abcabc", "ooo"), tours("abcabc"), count_tours("abcabc"), tours_along("abcabc")]
+[2, ((-6, -2, -4), (-5, -1, -3)), 3, 'cbacba', None, ('abacbc', 'abcabc'), 16, 4]
+>>> [one_web("abcabc", "abacbc"), turnings_between("aa", "aabb"), all_against("abcabc"), all_along("abcabc")]
+[True, None, 3, 2]
+"""
+SPREADS = """
+>>> from selfcrossed.spreads import chance_of_one, first_greatest, greatest_rounds, spread_along, spread_in_all, turned_at, value_at, without
+>>> [spread_along("abcabc"), spread_in_all("abcabc"), value_at((4, 4), -2), turned_at("abacbc", "b", "c"), without("abcabc", "b"), greatest_rounds("aabb"), first_greatest("aabb"), chance_of_one("aa"), spread_along("aabb")]
+[(4, 4), (16, 10, 1), -4, 'abcbac', 'acac', 3, 'oo', (2, 3), (1, 2, 1)]
+"""
+PARTS = {
+    "rows": ROWS, "links": LINKS, "flat": FLAT, "handles": HANDLES, "drawings": DRAWINGS, "numbers": NUMBERS,
+    "moves": MOVES, "turnings": TURNINGS, "spreads": SPREADS,
+}
 
 
 class Examples(unittest.TestCase):

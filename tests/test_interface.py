@@ -30,6 +30,27 @@ FUNCTIONS = {
         "plain_drawing": "drawing", "are_same": "one other", "is_own_mirror": "drawing", "drawings_of": "row",
         "count_drawings": "number",
     },
+    "numbers": {
+        "region_numbers": "drawing", "letter_numbers": "drawing", "signs": "drawing edge", "twice_mean": "drawing edge",
+        "turns": "drawing", "same_way": "drawing", "opposite_way": "drawing", "three_ways": "drawing",
+        "on_a_ball": "drawing", "area": "drawing sizes", "rings": "drawing", "most_turns": "row",
+        "least_same_way": "row", "turns_spread": "row", "outsides_with": "drawing number", "standard": "number",
+    },
+    "moves": {
+        "is_move": "drawing value", "done": "drawing move", "changes_of": "drawing move", "outs": "drawing",
+        "ins": "drawing", "led": "drawing moves", "back": "drawing move", "loosened": "drawing", "by_threes": "drawing",
+        "fewest_moves": "one other number", "without_loops": "one other number", "least_moves_of": "one other",
+    },
+    "turnings": {
+        "count_rounds": "row turnings", "rounds": "row turnings", "rounds_by_table": "row turnings",
+        "tour": "row turnings", "tours": "row", "count_tours": "row", "tours_along": "row", "one_web": "one other",
+        "turnings_between": "one other", "all_against": "row", "all_along": "row",
+    },
+    "spreads": {
+        "spread_along": "row", "spread_in_all": "row", "value_at": "polynomial number",
+        "turned_at": "row letter other", "without": "row letters", "greatest_rounds": "row", "first_greatest": "row",
+        "chance_of_one": "row",
+    },
 }
 CLASSES = {
     "drawings": {
