@@ -137,7 +137,7 @@ def is_move_of(drawing, value):
     # What is in the tuple is asked first, as Python takes True for the number 1.
     if not all([isinstance(part, str) or is_integer(part) for part in value]):
         return False
-    return value in outs_of(drawing) or value in ins_of(drawing)
+    return value in (ins_of(drawing) if value[0] in ("loop", "pair") else outs_of(drawing))
 
 
 def outs_of(drawing):

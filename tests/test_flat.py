@@ -151,6 +151,20 @@ class Flat(unittest.TestCase):
             self.assertIs(is_flat(row), False)
 
 
+    def test_longer_odd_rounds(self):
+        # Rows all of whose rounds are longer, or away from the first letter of their bunch.
+        rows = [
+            "abcadefgbcedgfhh", "abcdeafgbchedfgh", "abcadefghdicbfgieh", "abcdeafgbchigfdeih", "abcdefghicdifebahg",
+            "abcdefbghhijdegcfaji", "abcdeafghcdijhgebfij", "aabcdefghdcijhgbefij", "abcdefgchijefhdgbaij",
+        ]
+        for row in rows:
+            self.assertIs(is_flat(row), False)
+            for place in range(len(row)):
+                self.assert_why_not(row[place:] + row[:place])
+                self.assert_why_not((row[place:] + row[:place])[::-1].replace("a", "x").replace("c", "a").replace("x", "c"))
+        self.assertEqual({len(why_not(row)) for row in rows}, {3, 4, 5})
+
+
 class Edges(unittest.TestCase):
     def test_one_letter(self):
         self.assertEqual([regions("jj", "+"), regions("jj", "-")], [((-2, 0), (-1,), (1,)), ((-2,), (-1, 1), (0,))])

@@ -292,6 +292,17 @@ class Loosened(unittest.TestCase):
             last = led(drawing, loosened(drawing))
             self.assertEqual([move for move in outs(last) if move[0] != "three"], [])
 
+    def test_threes_alone_are_left(self):
+        # A line of whose regions none has fewer than three edges.
+        for row, sides in (("abcdeafcgehfbgdh", "+--++-+-"), ("abcdefbgdhfagche", "++--++-+")):
+            for element in range(-16, 16):
+                drawing = Drawing(row, sides, element)
+                self.assertGreaterEqual(min([len(region) for region in drawing.regions]), 3)
+                self.assertEqual({move[0] for move in outs(drawing)}, {"three"})
+                self.assertEqual(loosened(drawing), ())
+                for move in outs(drawing):
+                    self.assertTrue(are_same(done(done(drawing, move), back(drawing, move)), drawing))
+
     def test_nothing_to_do(self):
         self.assertEqual([loosened(CURL), loosened(EIGHT), loosened(THREE)[0][0]], [(), (), "no pair"])
 
