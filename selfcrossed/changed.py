@@ -46,6 +46,7 @@ def behind_no_pair(drawing, move):
 def behind_three(drawing, move):
     """Give the drawing with one stretch of the region pushed over the letter of the two others."""
     row = drawing.row
+    # Places are exchanged, so that this tells both where a passing goes and which one comes.
     led_to = list(range(len(row)))
     edges = [edge_of(each) for each in region_with(drawing, move[1])]
     for edge in edges:
@@ -56,6 +57,7 @@ def behind_three(drawing, move):
         TURNED_OVER[side] if led_to[row.find(letter)] > led_to[row.rfind(letter)] else side
         for letter, side in zip(letters_of(row), drawing.sides)
     ]
+    # The region's own edges have other regions beside them afterwards, all others the same ones.
     outside = [each for each in drawing.outside if edge_of(each) not in edges]
     return Drawing(new_row, "".join(new_sides), outside[0])
 
