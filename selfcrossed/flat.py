@@ -4,7 +4,7 @@ from selfcrossed.errors import InvalidSides
 from selfcrossed.links import count_in_both, linked_of
 from selfcrossed.rows import check_row, letters_of
 from selfcrossed.strings import all_strings
-from selfcrossed.walks import leaving, walks_of
+from selfcrossed.walks import edges_into, leaving, walks_of
 
 
 def regions(row, sides):
@@ -24,11 +24,7 @@ def handles(row, sides):
 def is_flat(row):
     """Tell whether some sides of the row have no handles."""
     check_row(row)
-    # A mirror has as many handles, so that the first letter's side may be chosen.
-    for sides in all_strings("+-", len(row) // 2 - 1):
-        if handles_of(row, "+" + sides) == 0:
-            return True
-    return False
+    return is_flat_row(row)
 
 
 def flat_sides(row):
@@ -40,21 +36,13 @@ def flat_sides(row):
 def flat_by_links(row):
     """Tell whether the row is flat, asked by its links alone."""
     check_row(row)
-    linked = linked_of(row)
-    return first_odd_letter(linked) is None and first_odd_pair(linked) is None and odd_round(linked) is None
+    return are_links_flat(linked_of(row))
 
 
 def why_not(row):
     """Give what tells by links that the row is not flat, None for a flat one."""
     check_row(row)
-    linked = linked_of(row)
-    letter = first_odd_letter(linked)
-    if letter is not None:
-        return letter
-    pair = first_odd_pair(linked)
-    if pair is not None:
-        return pair
-    return odd_round(linked)
+    return wrong_in(linked_of(row))
 
 
 def is_sides(row, value):
@@ -72,9 +60,14 @@ def check_sides(row, sides):
 
 def onward_of(row, sides):
     """List for each element the one that is gone along behind it so that a region is kept to the left."""
+    return onward_along(row, sides, edges_into(0, len(row)))
+
+
+def onward_along(row, sides, into):
+    """List what `onward_of` lists, `into` telling for each place the edge that leads to it."""
     onward = [0] * (2 * len(row))
     for letter, side in zip(letters_of(row), sides):
-        around = leaving(row, letter)
+        around = leaving(row, letter, into)
         if side == "-":
             around[1], around[3] = around[3], around[1]
         for index in range(4):
@@ -96,6 +89,31 @@ def handles_of(row, sides):
 def flat_sides_of(row):
     """List all sides without handles, ascending, of what is known to be a row."""
     return [sides for sides in all_strings("+-", len(row) // 2) if handles_of(row, sides) == 0]
+
+
+def is_flat_row(row):
+    """Tell whether what is known to be a row is flat."""
+    # A mirror has as many handles, so that the first letter's side may be chosen.
+    for sides in all_strings("+-", len(row) // 2 - 1):
+        if handles_of(row, "+" + sides) == 0:
+            return True
+    return False
+
+
+def are_links_flat(linked):
+    """Tell whether the rules for the links of flat rows hold for these."""
+    return wrong_in(linked) is None
+
+
+def wrong_in(linked):
+    """Give what breaks the rules for the links of flat rows, None if nothing does."""
+    letter = first_odd_letter(linked)
+    if letter is not None:
+        return letter
+    pair = first_odd_pair(linked)
+    if pair is not None:
+        return pair
+    return odd_round(linked)
 
 
 def first_odd_letter(linked):

@@ -12,7 +12,7 @@ def least_handles(row):
     """Give the least number of handles that sides of the row have."""
     check_row(row)
     check_size(row, MOST_SIDES)
-    return min(all_handles(row))
+    return least_of(row)
 
 
 def greatest_handles(row):
@@ -72,6 +72,11 @@ def two_shades(row, sides):
             elif shades[beside] == shades[region]:
                 return False
     return True
+
+
+def least_of(row):
+    """Give the least number of handles of what is known to be a row."""
+    return min(all_handles(row))
 
 
 def all_handles(row):

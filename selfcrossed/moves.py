@@ -71,14 +71,7 @@ def back(drawing, move):
 def loosened(drawing):
     """Give moves "no loop" and "no pair" behind which there are none any more."""
     check_drawing(drawing)
-    found = []
-    now = drawing
-    moves = loosening(now)
-    while moves:
-        found.append(moves[0])
-        now = drawing_behind(now, moves[0])
-        moves = loosening(now)
-    return tuple(found)
+    return loosening_of(drawing)
 
 
 def by_threes(drawing):
@@ -200,7 +193,19 @@ def moves_back(drawing, move, after):
     return [other for other in pairs if edge_of(other[1]) in edges and edge_of(other[2]) in edges]
 
 
-def loosening(drawing):
+def loosening_of(drawing):
+    """Give moves "no loop" and "no pair" behind which there are none any more, of what is known to be a drawing."""
+    found = []
+    now = drawing
+    moves = loose_of(now)
+    while moves:
+        found.append(moves[0])
+        now = drawing_behind(now, moves[0])
+        moves = loose_of(now)
+    return tuple(found)
+
+
+def loose_of(drawing):
     """List the moves "no loop" and "no pair" of the drawing."""
     return [move for move in outs_of(drawing) if move[0] != "three"]
 

@@ -5,7 +5,7 @@ from selfcrossed.limits import MOST_SIDES
 from selfcrossed.links import rank_of, table_of
 from selfcrossed.rows import check_row, check_size, letters_of, plain_of
 from selfcrossed.strings import all_strings
-from selfcrossed.walks import edge_of, end_of, leaving, walks_of
+from selfcrossed.walks import edge_of, edges_into, end_of, leaving, walks_of
 
 MOST_TOURED = 6
 ALL_TURNINGS = "=ox"
@@ -116,8 +116,9 @@ def turnings_of(row, kinds):
 def rounds_of(row, turnings):
     """List the rounds, ascending, that what is known to be turnings makes."""
     onward = [0] * (2 * len(row))
+    into = edges_into(0, len(row))
     for letter, turning in zip(letters_of(row), turnings):
-        ways_out = leaving(row, letter)
+        ways_out = leaving(row, letter, into)
         for index in range(4):
             onward[-1 - ways_out[index]] = ways_out[JOINED[turning][index]]
     return one_way_each(walks_of(onward))

@@ -20,11 +20,18 @@ def end_of(element, size):
     return (element + 1) % size if element >= 0 else -1 - element
 
 
-def leaving(row, letter):
-    """List the elements that leave a letter: out of its earlier place, out of its later one, back out of both."""
-    size = len(row)
+def edges_into(first, size):
+    """List for each place of a line the edge that leads to it, the line having so many places from the first one on."""
+    return [first + size - 1, *list(range(first, first + size - 1))]
+
+
+def leaving(row, letter, into):
+    """List the elements that leave a letter: out of its earlier place, out of its later one, back out of both.
+
+    `into` tells for each place the edge that leads to it.
+    """
     earlier, later = row.find(letter), row.rfind(letter)
-    return [earlier, later, -1 - (earlier - 1) % size, -1 - (later - 1) % size]
+    return [earlier, later, -1 - into[earlier], -1 - into[later]]
 
 
 def walks_of(onward):

@@ -67,16 +67,40 @@ SPREADS = """
 >>> [spread_along("abcabc"), spread_in_all("abcabc"), value_at((4, 4), -2), turned_at("abacbc", "b", "c"), without("abcabc", "b"), greatest_rounds("aabb"), first_greatest("aabb"), chance_of_one("aa"), spread_along("aabb")]
 [(4, 4), (16, 10, 1), -4, 'abcbac', 'acac', 3, 'oo', (2, 3), (1, 2, 1)]
 """
-PARTS = {
+PARTS = """
+>>> from selfcrossed.parts import count_flat_parts, crossed_once, exchanges, fewest_out, flat_parts, handles_without, ways_in
+>>> [fewest_out("abab"), flat_parts("abab"), count_flat_parts("abab"), handles_without("abab"), exchanges("abab"), ways_in(eight), crossed_once("aa"), fewest_out("aabb")]
+['a', ('a', 'b'), 2, (0, 0), (0, 1, 2, 3), ((0, 0), (1, 1)), ('aabb',), '']
+"""
+LINES = """
+>>> from selfcrossed.lines import are_even, are_flat, are_same_lines, flat_lines_sides, joined, least_lines_handles, lines_handles, parted, plain_lines, shared
+>>> [are_flat(("ab", "ab")), flat_lines_sides(("ab", "ab")), lines_handles(("ab", "ab"), "++"), least_lines_handles(("a", "a")), are_even(("a", "a")), shared(("ab", "ab"), 0, 1), joined(("ab", "ab"), "a"), parted(("abab",), "a"), plain_lines(("ba", "ab")), are_same_lines(("aab", "b"), ("b", "baa"))]
+[True, ('+-', '-+'), 1, 1, False, 'ab', ('bb',), ('b', 'b'), ('ab', 'ab'), True]
+"""
+DIMS = """
+>>> from selfcrossed.dims import best_looks, count_fillings, fillings, fillings_like, flat_fillings, flat_word, handles_of, hidden, is_dim, looks_needed, never_links, nth_filling, sure_links, sure_pairs, turns_of
+>>> [is_dim("ab??"), count_fillings("ab??"), fillings("ab??"), nth_filling("??", 0), flat_fillings("ab??"), flat_word("ab??"), flat_word("a?b?"), handles_of("ab??"), sure_links("a?b?"), never_links("a?b?")]
+[True, 2, ('abab', 'abba'), 'aa', 1, 'open', 'sure', ((0, 1), (1, 1)), (), ('ab',)]
+>>> [turns_of("??"), sure_pairs("ab??"), looks_needed("ab??"), best_looks("ab??"), hidden("aabb", (1, 3)), fillings_like("ab??", "aabb")]
+[(-2, 0, 2), ((0, 3), (1, 2)), 1, (2, 3), 'a?b?', 1]
+"""
+BENCHES = """
+>>> from selfcrossed.benches import Bench
+>>> bench = Bench(curl)
+>>> [bench.move(("loop", 0, "l")), bench.play((("loop", 0, "r"), ("no loop", "b"))), bench.drawing.text, bench.turns, bench.changes, len(bench.deeds), bench.undo(), bench.drawing.text, bench.first == curl]
+[None, None, 'acca ++ -3', 1, 2, 3, None, 'abba +- -3', True]
+"""
+ALL = {
     "rows": ROWS, "links": LINKS, "flat": FLAT, "handles": HANDLES, "drawings": DRAWINGS, "numbers": NUMBERS,
-    "moves": MOVES, "turnings": TURNINGS, "spreads": SPREADS,
+    "moves": MOVES, "turnings": TURNINGS, "spreads": SPREADS, "parts": PARTS, "lines": LINES, "dims": DIMS,
+    "benches": BENCHES,
 }
 
 
 class Examples(unittest.TestCase):
     def test_all(self):
         known = {}
-        for name, text in PARTS.items():
+        for name, text in ALL.items():
             with self.subTest(name):
                 test = doctest.DocTestParser().get_doctest(text, known, name, None, 0)
                 self.assertGreater(len(test.examples), 1)

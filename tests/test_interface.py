@@ -51,12 +51,37 @@ FUNCTIONS = {
         "turned_at": "row letter other", "without": "row letters", "greatest_rounds": "row", "first_greatest": "row",
         "chance_of_one": "row",
     },
+    "parts": {
+        "fewest_out": "row", "flat_parts": "row", "count_flat_parts": "row", "handles_without": "row", "exchanges": "row",
+        "ways_in": "drawing", "crossed_once": "row",
+    },
+    "lines": {
+        "lines_handles": "lines sides", "least_lines_handles": "lines", "are_flat": "lines", "flat_lines_sides": "lines",
+        "shared": "lines first second", "are_even": "lines", "joined": "lines letter", "parted": "lines letter",
+        "plain_lines": "lines", "are_same_lines": "one other",
+    },
+    "dims": {
+        "is_dim": "value", "count_fillings": "dim", "fillings": "dim", "nth_filling": "dim index", "flat_fillings": "dim",
+        "flat_word": "dim", "handles_of": "dim", "sure_links": "dim", "never_links": "dim", "turns_of": "dim",
+        "sure_pairs": "dim", "looks_needed": "dim", "best_looks": "dim", "hidden": "row places",
+        "fillings_like": "dim row",
+    },
 }
 CLASSES = {
     "drawings": {
         "Drawing": {
             "parameters": "row sides outside", "methods": {"read": "text"},
             "properties": "row sides outside regions size text",
+        },
+    },
+    "benches": {
+        "Bench": {
+            "parameters": "drawing",
+            "methods": {
+                "move": "self move", "play": "self moves", "loosen": "self", "turn_out": "self region", "undo": "self",
+                "trial": "self", "tried": "self action",
+            },
+            "properties": "drawing first deeds changes turns same_way opposite_way three_ways",
         },
     },
 }

@@ -172,8 +172,22 @@ class Language(unittest.TestCase):
             self.assertIsNotNone(node.type)
         for node in nodes_of(file, ast.Compare):
             for operator, side in zip(node.ops, node.comparators):
-                if isinstance(operator, (ast.Is, ast.IsNot)):
+                if isinstance(operator, (ast.Is, ast.IsNot)) and ast.unparse(node.left) != "self":
                     self.assertIn(ast.unparse(side), ("None", "True", "False"))
+
+    @for_each_file
+    def test_no_method_is_read_off_a_class(self, file):
+        # It goes along with `self is other`.
+        classes = {node.name for each in FILES for node in nodes_of(each, ast.ClassDef)}
+        for node in nodes_of(file, ast.Attribute):
+            self.assertNotIn(ast.unparse(node.value), classes)
+
+    @for_each_file
+    def test_stars_in_calls(self, file):
+        for node in nodes_of(file, ast.Call):
+            for argument in node.args:
+                if isinstance(argument, ast.Starred):
+                    self.assertIsInstance(argument.value, (ast.Name, ast.Attribute))
 
     @for_each_file
     def test_names(self, file):
