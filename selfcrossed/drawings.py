@@ -41,11 +41,10 @@ class Drawing:
     @staticmethod
     def read(text):
         """Give the drawing with this text."""
-        told = told_in(text)
-        if told is None:
+        drawing = drawing_in(text)
+        if drawing is None:
             raise InvalidText(text)
-        row, sides, outside = told
-        return Drawing(row, sides, outside[0])
+        return drawing
 
     @property
     def row(self):
@@ -174,17 +173,16 @@ def text_of(told):
     return f"{row} {sides} {min(outside)}"
 
 
-def told_in(text):
-    """Give what the text of a drawing tells, None for any other value."""
+def drawing_in(text):
+    """Give the drawing with this text, None for any other value."""
     words = text.split(" ") if isinstance(text, str) else []
     if len(words) != 3 or not is_row(words[0]) or not is_sides(words[0], words[1]):
         return None
     found = regions_of(words[0], words[1])
     if are_without_handles(words[0], found):
         for region in found:
-            told = (words[0], words[1], region)
-            if text_of(told) == text:
-                return told
+            if text_of((words[0], words[1], region)) == text:
+                return Drawing(words[0], words[1], region[0])
     return None
 
 

@@ -36,10 +36,7 @@ def first_sides(row, number):
     if not is_from_to(number, 0, MOST_LETTERS):
         raise InvalidNumber(number)
     check_size(row, MOST_SIDES)
-    for sides in all_strings("+-", len(row) // 2):
-        if handles_of(row, sides) == number:
-            return sides
-    return None
+    return first_sides_of(row, number)
 
 
 def one_region(row):
@@ -72,6 +69,14 @@ def two_shades(row, sides):
             elif shades[beside] == shades[region]:
                 return False
     return True
+
+
+def first_sides_of(row, number):
+    """Give the first sides with so many handles of what is known to be a row, None if there are none."""
+    for sides in all_strings("+-", len(row) // 2):
+        if handles_of(row, sides) == number:
+            return sides
+    return None
 
 
 def least_of(row):

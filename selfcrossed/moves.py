@@ -103,6 +103,11 @@ def least_moves_of(one, other):
     """Give the least numbers of pairs the same way, pairs the opposite way and threes that lead to the other."""
     check_drawing(one)
     check_drawing(other)
+    return least_moves(one, other)
+
+
+def least_moves(one, other):
+    """Give what `least_moves_of` tells of what are known to be drawings."""
     if abs(turns_of(one)) != abs(turns_of(other)):
         return None
     apart = [abs(old - new) for old, new in zip(five_numbers(one), five_numbers(other))]

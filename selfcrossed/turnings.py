@@ -66,18 +66,13 @@ def tours_along(row):
 def one_web(one, other):
     """Tell whether a tour of the one row is the same line as the other one."""
     check_web(one, other)
-    return plain_of(other) in plain_tours_of(one)
+    return are_one_web(one, other)
 
 
 def turnings_between(one, other):
     """Give turnings of the one row whose tour is the same line as the other one, None if there are none."""
     check_web(one, other)
-    goal = plain_of(other)
-    for turnings in turnings_of(one, ALL_TURNINGS):
-        row = tour_of(one, turnings)
-        if row is not None and plain_of(row) == goal:
-            return turnings
-    return None
+    return turnings_to(one, other)
 
 
 def all_against(row):
@@ -106,6 +101,23 @@ def check_web(one, other):
     check_row(other)
     check_size(one, MOST_TOURED)
     check_size(other, MOST_TOURED)
+
+
+def are_one_web(one, other):
+    """Tell whether both, known to be rows, have one web."""
+    return turnings_to(one, other) is not None
+
+
+def turnings_to(one, other):
+    """Give what `turnings_between` tells of what are known to be rows."""
+    if len(one) != len(other):
+        return None
+    goal = plain_of(other)
+    for turnings in turnings_of(one, ALL_TURNINGS):
+        row = tour_of(one, turnings)
+        if row is not None and plain_of(row) == goal:
+            return turnings
+    return None
 
 
 def turnings_of(row, kinds):

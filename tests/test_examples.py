@@ -1,7 +1,10 @@
 """The examples of the document, as they stand there, one after the other in one and the same room of names."""
 
 import doctest
+import re
 import unittest
+
+from tests.kinds import raised
 
 ROWS = """
 >>> from selfcrossed.rows import backwards, begun, count_rows, is_row, is_same, letters, lines_of, named, nth_row, places, plain, ways_to_itself
@@ -90,18 +93,58 @@ BENCHES = """
 >>> [bench.move(("loop", 0, "l")), bench.play((("loop", 0, "r"), ("no loop", "b"))), bench.drawing.text, bench.turns, bench.changes, len(bench.deeds), bench.undo(), bench.drawing.text, bench.first == curl]
 [None, None, 'acca ++ -3', 1, 2, 3, None, 'abba +- -3', True]
 """
+SHELVES = """
+>>> from selfcrossed.shelves import Shelf
+>>> shelf = Shelf()
+>>> [shelf.put("ring", "abcabc"), shelf.put("knot", curl), shelf.claim(("flat", "ring")), shelf.claim(("turns", "knot", 2)), shelf.claim(("rounds", "ring", "ooo", 2)), shelf.names, len(shelf.claims), shelf.changes, "ring" in shelf]
+[None, None, None, None, None, ('knot', 'ring'), 3, 5, True]
+>>> shelf.put("ring", "abab")
+raises Broken(index=0, shown='a')
+>>> shelf.claim(("handles", "ring", 1))
+raises Broken(index=3, shown=0)
+"""
+CONSOLE = """
+>>> from selfcrossed.console import Console
+>>> console = Console()
+>>> [console.run("row k abab"), console.run("drawing d aa + -1"), console.run("flat k"), console.run("why k"), console.run("handles k"), console.run("turns d"), console.run("regions d"), console.run("rounds k xx"), console.run("claim not flat k"), console.run("names"), console.run("without k b")]
+['ok', 'ok', 'no', 'a', '1', '2', '1 0 2', '2', 'ok', 'd k', 'aa']
+"""
+CHECKER = """
+>>> from selfcrossed.checker import accepts
+>>> [accepts(("flat", "aabb"), "++"), accepts(("not flat", "abab"), "a"), accepts(("flat", "abab"), "++"), accepts(("rounds", "abcabc", "ooo", 2), ((-6, -2, -4), (-5, -1, -3))), accepts(("turns", "abcabc +-+ -5", 2), (1, 0, 1, 1, 2)), accepts(("same", "abba", "aabb"), (1, 1, "ba")), accepts(("led", "aa + -1", "abcabc +-+ -5"), (("pair", 0, -2, 0),))]
+[True, True, False, True, True, True, True]
+"""
+CERTIFICATES = """
+>>> from selfcrossed.certificates import certify_apart, certify_flat, certify_handles, certify_least, certify_led, certify_lines, certify_out, certify_rounds, certify_same, certify_three_ways, certify_turns, certify_web
+>>> [certify_flat("abab")[0], certify_handles("abab"), certify_turns(curl), certify_three_ways(curl), certify_apart(curl, eight), certify_rounds("aa", "o"), certify_out("abab")[0]]
+[('not flat', 'abab'), (('all handles', 'abab', 1), ()), (('turns', 'aa + -1', 2), (1, 0, 2)), (('three ways', 'aa + -1', 1), (1, 0, 2)), (('apart', 'aa + -1', 'aa + -2'), ()), (('rounds', 'aa', 'o', 2), ((-2,), (-1,))), ('fewest out', 'abab', 1)]
+>>> [certify_least(curl, three)[0], accepts(certify_least(curl, three)[0], certify_least(curl, three)[1]), certify_same("aabb", "abab")[0][0], certify_web("aa", "aabb"), certify_lines(("a", "a")), certify_led(curl, ())[0]]
+[('at least', 'aa + -1', 'abcabc +-+ -5', 1), True, 'unlike', None, None, ('led', 'aa + -1', 'aa + -1')]
+"""
 ALL = {
     "rows": ROWS, "links": LINKS, "flat": FLAT, "handles": HANDLES, "drawings": DRAWINGS, "numbers": NUMBERS,
     "moves": MOVES, "turnings": TURNINGS, "spreads": SPREADS, "parts": PARTS, "lines": LINES, "dims": DIMS,
-    "benches": BENCHES,
+    "benches": BENCHES, "shelves": SHELVES, "console": CONSOLE, "checker": CHECKER, "certificates": CERTIFICATES,
 }
+
+
+class Told:
+    """An error, shown as the document shows it."""
+
+    def __init__(self, action):
+        self.error = raised(action, [])
+
+    def __repr__(self):
+        kept = ", ".join([f"{name}={worth!r}" for name, worth in vars(self.error).items()])
+        return f"raises {self.error.__class__.__name__}({kept})"
 
 
 class Examples(unittest.TestCase):
     def test_all(self):
-        known = {}
+        known = {"Told": Told}
         for name, text in ALL.items():
             with self.subTest(name):
+                text = re.sub(r">>> (.*)\nraises ", r">>> Told(lambda: \1)\nraises ", text)
                 test = doctest.DocTestParser().get_doctest(text, known, name, None, 0)
                 self.assertGreater(len(test.examples), 1)
                 told = []

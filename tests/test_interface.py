@@ -66,6 +66,13 @@ FUNCTIONS = {
         "sure_pairs": "dim", "looks_needed": "dim", "best_looks": "dim", "hidden": "row places",
         "fillings_like": "dim row",
     },
+    "checker": {"accepts": "claim paper"},
+    "certificates": {
+        "certify_flat": "row", "certify_handles": "row", "certify_same": "one other", "certify_rounds": "row turnings",
+        "certify_web": "one other", "certify_turns": "drawing", "certify_same_way": "drawing",
+        "certify_opposite_way": "drawing", "certify_three_ways": "drawing", "certify_apart": "one other",
+        "certify_least": "one other", "certify_led": "drawing moves", "certify_out": "row", "certify_lines": "lines",
+    },
 }
 CLASSES = {
     "drawings": {
@@ -84,6 +91,17 @@ CLASSES = {
             "properties": "drawing first deeds changes turns same_way opposite_way three_ways",
         },
     },
+    "shelves": {
+        "Shelf": {
+            "parameters": "",
+            "methods": {
+                "put": "self name thing", "thing": "self name", "drop": "self name", "claim": "self claim",
+                "lift": "self index", "undo": "self", "trial": "self", "tried": "self action",
+            },
+            "properties": "names claims changes",
+        },
+    },
+    "console": {"Console": {"parameters": "", "methods": {"run": "self command"}, "properties": "shelf"}},
 }
 
 
