@@ -1,18 +1,28 @@
-"""Drawings behind a move, the move being known to be one for the drawing."""
+"""Drawings behind a move, the move being known to be one for the drawing.
 
-from selfcrossed.drawings import TURNED_OVER, Drawing
+A drawing is told by its row, its sides and an element of its outside.
+"""
+
+from selfcrossed.drawings import Drawing
+from selfcrossed.flat import TURNED_OVER
 from selfcrossed.rows import ALPHABET, letters_of
 from selfcrossed.walks import edge_of, end_of, gone_as
 
 
 def drawing_behind(drawing, move):
     """Give the drawing behind the move."""
+    row, sides, element = told_behind(drawing, move)
+    return Drawing(row, sides, element)
+
+
+def told_behind(drawing, move):
+    """Give the row, the sides and an element of the outside of the drawing behind the move."""
     change = CHANGES[move[0]]
     return change(drawing, move)
 
 
 def behind_loop(drawing, move):
-    """Give the drawing with a small loop more."""
+    """Tell the drawing with a small loop more."""
     edge, way = move[1], move[2]
     letter = new_letters(drawing.row)[0]
     inserted = {edge: letter + letter}
@@ -21,7 +31,7 @@ def behind_loop(drawing, move):
 
 
 def behind_pair(drawing, move):
-    """Give the drawing with one stretch pushed over another one."""
+    """Tell the drawing with one stretch pushed over another one."""
     one, other, part = move[1], move[2], move[3]
     inserted = letters_of_pair(new_letters(drawing.row), one, other)
     outside = first_piece(drawing.outside[0], inserted)
@@ -31,12 +41,12 @@ def behind_pair(drawing, move):
 
 
 def behind_no_loop(drawing, move):
-    """Give the drawing without the loop at the letter."""
+    """Tell the drawing without the loop at the letter."""
     return without_letters(drawing, move[1], [loop_edge(drawing.row, move[1])])
 
 
 def behind_no_pair(drawing, move):
-    """Give the drawing with the region between both letters pulled away."""
+    """Tell the drawing with the region between both letters pulled away."""
     letters = move[1] + move[2]
     inner = [region for region in drawing.regions if region != drawing.outside]
     pulled = [region for region in inner if pair_of(drawing.row, region) == letters][0]
@@ -44,7 +54,7 @@ def behind_no_pair(drawing, move):
 
 
 def behind_three(drawing, move):
-    """Give the drawing with one stretch of the region pushed over the letter of the two others."""
+    """Tell the drawing with one stretch of the region pushed over the letter of the two others."""
     row = drawing.row
     # Places are exchanged, so that this tells both where a passing goes and which one comes.
     led_to = list(range(len(row)))
@@ -59,7 +69,7 @@ def behind_three(drawing, move):
     ]
     # The region's own edges have other regions beside them afterwards, all others the same ones.
     outside = [each for each in drawing.outside if edge_of(each) not in edges]
-    return Drawing(new_row, "".join(new_sides), outside[0])
+    return new_row, "".join(new_sides), outside[0]
 
 
 def region_with(drawing, element):
@@ -73,11 +83,11 @@ def new_letters(row):
 
 
 def with_more(drawing, inserted, new_sides, outside):
-    """Give the drawing with further letters behind places and with their sides."""
+    """Tell the drawing with further letters behind places and with their sides."""
     row = "".join([letter + inserted.get(place, "") for place, letter in enumerate(drawing.row)])
     side_of = dict(zip(letters_of(drawing.row), drawing.sides))
     side_of.update(new_sides)
-    return Drawing(row, "".join([side_of[letter] for letter in letters_of(row)]), outside)
+    return row, "".join([side_of[letter] for letter in letters_of(row)]), outside
 
 
 def letters_of_pair(new, one, other):
@@ -121,14 +131,14 @@ def piece_behind_two(element, inserted):
 
 
 def without_letters(drawing, gone, pulled):
-    """Give the drawing without these letters, between which these edges are pulled away."""
+    """Tell the drawing without these letters, between which these edges are pulled away."""
     row = drawing.row
     new_row = "".join([letter for letter in row if letter not in gone])
     side_of = dict(zip(letters_of(row), drawing.sides))
     # The edges that are pulled away can be beside another region afterwards; the other ones stay where they are.
     kept = [each for each in drawing.outside if edge_of(each) not in pulled][0]
     outside = gone_as(edge_without(row, edge_of(kept), gone), kept)
-    return Drawing(new_row, "".join([side_of[letter] for letter in letters_of(new_row)]), outside)
+    return new_row, "".join([side_of[letter] for letter in letters_of(new_row)]), outside
 
 
 def edge_without(row, edge, gone):

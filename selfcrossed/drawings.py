@@ -7,16 +7,15 @@ in any order.
 from selfcrossed.errors import (
     InvalidNumber, InvalidOutside, InvalidRow, InvalidSides, InvalidText, NotADrawing, NotFlat,
 )
-from selfcrossed.flat import flat_sides_of, is_flat, is_sides, regions_of
+from selfcrossed.flat import TURNED_OVER, flat_sides_of, is_flat_row, is_sides, region_at, regions_of
 from selfcrossed.integers import is_from_to, is_integer
 from selfcrossed.rows import (
-    begun_from, check_place, check_row, check_size, first_named, is_row, letters_of, lines_of, ways_round,
+    ALPHABET, begun_from, check_place, check_row, check_size, is_row, least_ways, letters_of, lines_of,
 )
 from selfcrossed.walks import edge_of, gone_as
 
 MOST_DRAWN = 6
 MOST_COUNTED = 3
-TURNED_OVER = {"+": "-", "-": "+"}
 
 
 class Drawing:
@@ -122,13 +121,14 @@ def are_same(one, other):
 def is_own_mirror(drawing):
     """Tell whether the drawing is the same as its mirror."""
     check_drawing(drawing)
-    return are_same_drawings(drawing, drawn(mirror_told(told_of(drawing))))
+    told = told_of(drawing)
+    return plain_told(told) == plain_told(mirror_told(told))
 
 
 def drawings_of(row):
     """Give the plain drawings of all drawings of the row, ascending by their texts."""
     check_row(row)
-    if not is_flat(row):
+    if not is_flat_row(row):
         raise NotFlat()
     check_size(row, MOST_DRAWN)
     return tuple(plain_drawings_of(row))
@@ -191,6 +191,11 @@ def told_of(drawing):
     return drawing.row, drawing.sides, drawing.outside
 
 
+def told_with(row, sides, element):
+    """Give the triple of what a drawing with this element of its outside is made of."""
+    return row, sides, region_at(row, sides, element)
+
+
 def drawn(told):
     """Give the drawing that is made of this."""
     row, sides, outside = told
@@ -212,8 +217,7 @@ def begun_told(told, place):
 def back_told(told):
     """Walk what a drawing is made of backwards."""
     row, sides, outside = told
-    back_outside = [gone_as((len(row) - 2 - edge_of(each)) % len(row), -1 - each) for each in outside]
-    return row[::-1], turned_over(sides), tuple(back_outside)
+    return row[::-1], turned_over(sides), tuple([gone_back(each, len(row)) for each in outside])
 
 
 def mirror_told(told):
@@ -227,51 +231,86 @@ def turned_over(sides):
     return "".join([TURNED_OVER[side] for side in sides])
 
 
-def first_named_told(told):
-    """Give what a drawing is made of other letters, so that they come first in the order of the alphabet."""
-    row, sides, outside = told
-    side_of = dict(zip(letters_of(row), sides))
-    firsts = [letter for place, letter in enumerate(row) if letter not in row[:place]]
-    return first_named(row), "".join([side_of[letter] for letter in firsts]), outside
-
-
-def plain_told(drawing):
+def plain_told(told):
     """Give what the plain drawing is made of, the outside by its least element alone."""
-    told = told_of(drawing)
-    ways = ways_round(drawing.row)
-    least = min(ways)
+    return plain_by(told, least_ways(told[0]))
+
+
+def plain_by(told, least_and_ways):
+    """Give what `plain_told` gives by what `least_ways` tells of the row."""
+    row, sides, outside = told
+    least, ways = least_and_ways
+    least_sides, fitting = sides_along(row, sides, least, ways)
+    return least, least_sides, least_along(outside, len(row), fitting)
+
+
+def sides_along(row, sides, least, ways):
+    """Give the least sides that there are along the ways to the plain row, and the ways along which there are these."""
+    seen = "".join(seen_sides(row, sides))
+    by_turn = (seen + seen, (seen + seen)[::-1])
+    firsts = [least.find(letter) for letter in ALPHABET[:len(sides)]]
+    made = ["".join([by_turn[turn][start + place] for place in firsts]) for start, turn in ways]
+    least_sides = min(made)
+    return least_sides, [way for way, told in zip(ways, made) if told == least_sides]
+
+
+def seen_sides(row, sides):
+    """List for each place the side that its letter has if one comes there first, whichever way one goes."""
+    side_of = dict(zip(letters_of(row), sides))
     found = []
-    # For each place the way forwards from there is followed by the same way backwards.
-    for index, way in enumerate(ways):
-        if way == least:
-            begun = begun_told(told, index // 2)
-            row, sides, outside = first_named_told(back_told(begun) if index & 1 == 1 else begun)
-            found.append((row, sides, min(outside)))
+    for letter in row:
+        found.append(side_of[letter])
+        # From the letter's other place the passings are exchanged.
+        side_of[letter] = TURNED_OVER[side_of[letter]]
+    return found
+
+
+def least_along(outside, size, ways):
+    """Give the least element of the outside along one of these ways in a row of so many places."""
+    # Read backwards, an edge is told from behind, and what was gone forwards is gone backwards.
+    forwards = [each for each in outside if each >= 0]
+    backwards = [-1 - each for each in outside if each < 0]
+    by_turn = (
+        (forwards, backwards), ([size - 2 - edge for edge in backwards], [size - 2 - edge for edge in forwards]),
+    )
+    found = []
+    for start, turn in ways:
+        ahead, behind = by_turn[turn]
+        # What goes backwards is less than what goes forwards, and the less the greater its edge is.
+        if behind:
+            found.append(-1 - max([(edge - start) % size for edge in behind]))
+        else:
+            found.append(min([(edge - start) % size for edge in ahead]))
     return min(found)
+
+
+def gone_back(element, size):
+    """Give what the element becomes when a row of so many places is walked backwards."""
+    return gone_as((size - 2 - edge_of(element)) % size, -1 - element)
 
 
 def plain_of_drawing(drawing):
     """Give the plain drawing of what is known to be a drawing."""
-    row, sides, element = plain_told(drawing)
+    row, sides, element = plain_told(told_of(drawing))
     return Drawing(row, sides, element)
 
 
 def are_same_drawings(one, other):
     """Tell whether both, known to be drawings, are the same."""
-    return plain_told(one) == plain_told(other)
-
-
-def all_drawings_of(row):
-    """List the drawings of all flat sides of the row with each region as the outside."""
-    return [
-        Drawing(row, sides, region[0]) for sides in flat_sides_of(row) for region in regions_of(row, sides)
-    ]
+    return plain_told(told_of(one)) == plain_told(told_of(other))
 
 
 def plain_drawings_of(row):
     """List the unlike plain drawings of all drawings of the row, ascending by their texts."""
+    # The ways are the same for all drawings of the row.
+    least, ways = least_ways(row)
     found = {}
-    for drawing in all_drawings_of(row):
-        plain = plain_of_drawing(drawing)
-        found[plain.text] = plain
-    return [found[text] for text in sorted(found)]
+    for sides in flat_sides_of(row):
+        least_sides, fitting = sides_along(row, sides, least, ways)
+        for region in regions_of(row, sides):
+            found[(least_sides, least_along(region, len(row), fitting))] = True
+    drawings = {}
+    for least_sides, element in found:
+        drawing = Drawing(least, least_sides, element)
+        drawings[drawing.text] = drawing
+    return [drawings[text] for text in sorted(drawings)]

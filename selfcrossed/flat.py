@@ -3,8 +3,10 @@
 from selfcrossed.errors import InvalidSides
 from selfcrossed.links import count_in_both, linked_of
 from selfcrossed.rows import check_row, letters_of
-from selfcrossed.strings import all_strings
-from selfcrossed.walks import edges_into, leaving, walks_of
+from selfcrossed.touches import sides_by_touches
+from selfcrossed.walks import edges_into, first_elements, leaving, walk_from, walks_of
+
+TURNED_OVER = {"+": "-", "-": "+"}
 
 
 def regions(row, sides):
@@ -49,7 +51,7 @@ def is_sides(row, value):
     """Tell whether any value is a string of sides for what is known to be a row."""
     if not isinstance(value, str) or 2 * len(value) != len(row):
         return False
-    return all([sign in "+-" for sign in value])
+    return value.count("+") + value.count("-") == len(value)
 
 
 def check_sides(row, sides):
@@ -67,13 +69,31 @@ def onward_along(row, sides, into):
     """List what `onward_of` lists, `into` telling for each place the edge that leads to it."""
     onward = [0] * (2 * len(row))
     for letter, side in zip(letters_of(row), sides):
-        around = leaving(row, letter, into)
+        out, later_out, back, later_back = leaving(row, letter, into)
         if side == "-":
-            around[1], around[3] = around[3], around[1]
-        for index in range(4):
-            # One comes along a half edge against the way in which one leaves by it, and goes on by the next one.
-            onward[-1 - around[index]] = around[index - 1]
+            later_out, later_back = later_back, later_out
+        # One comes along a half edge against the way in which one leaves by it, and goes on by the next one.
+        onward[-1 - out] = later_back
+        onward[-1 - later_out] = out
+        onward[-1 - back] = later_out
+        onward[-1 - later_back] = back
     return onward
+
+
+def corners_of(row):
+    """Give the choices of sides at the letters of the row, told as in `walks`."""
+    return corners_along(row, edges_into(0, len(row)))
+
+
+def corners_along(row, into):
+    """Give what `corners_of` gives, `into` telling for each place the edge that leads to it."""
+    own = letters_of(row)
+    onward = {side: onward_along(row, side * len(own), into) for side in "+-"}
+    choices = []
+    for letter in own:
+        arriving = [-1 - element for element in leaving(row, letter, into)]
+        choices.append({side: [(element, onward[side][element]) for element in arriving] for side in "+-"})
+    return choices
 
 
 def regions_of(row, sides):
@@ -81,23 +101,42 @@ def regions_of(row, sides):
     return walks_of(onward_of(row, sides))
 
 
+def region_at(row, sides, element):
+    """Give the region with this element of what is known to be a row with sides, from this element on."""
+    return walk_from(onward_of(row, sides), element)
+
+
 def handles_of(row, sides):
     """Give the number of handles of what is known to be a row with sides."""
-    return (len(row) // 2 + 2 - len(regions_of(row, sides))) // 2
+    return handles_with(row, len(first_elements(onward_of(row, sides))))
+
+
+def handles_with(row, number):
+    """Give the number of handles of a drawing of the row with so many regions."""
+    return (len(row) // 2 + 2 - number) // 2
 
 
 def flat_sides_of(row):
     """List all sides without handles, ascending, of what is known to be a row."""
-    return [sides for sides in all_strings("+-", len(row) // 2) if handles_of(row, sides) == 0]
+    told = sides_by_touches(row)
+    if told is None or handles_of(row, told[0]) > 0:
+        return []
+    sides, lots = told
+    found = [sides]
+    for lot in lots:
+        found = found + [turned_at(each, letters_of(row), lot) for each in found]
+    return sorted(found)
+
+
+def turned_at(sides, letters, lot):
+    """Turn over the sides of those of the letters that are in the lot."""
+    return "".join([TURNED_OVER[side] if letter in lot else side for side, letter in zip(sides, letters)])
 
 
 def is_flat_row(row):
     """Tell whether what is known to be a row is flat."""
-    # A mirror has as many handles, so that the first letter's side may be chosen.
-    for sides in all_strings("+-", len(row) // 2 - 1):
-        if handles_of(row, "+" + sides) == 0:
-            return True
-    return False
+    told = sides_by_touches(row)
+    return told is not None and handles_of(row, told[0]) == 0
 
 
 def are_links_flat(linked):

@@ -1,11 +1,11 @@
 """Handles: how many the sides of a row can have."""
 
 from selfcrossed.errors import InvalidNumber
-from selfcrossed.flat import check_sides, handles_of, regions_of
+from selfcrossed.flat import check_sides, corners_of, handles_with, regions_of
 from selfcrossed.integers import is_from_to
 from selfcrossed.limits import MOST_LETTERS, MOST_SIDES
 from selfcrossed.rows import check_row, check_size
-from selfcrossed.strings import all_strings
+from selfcrossed.sweeps import counted_walks
 
 
 def least_handles(row):
@@ -19,15 +19,15 @@ def greatest_handles(row):
     """Give the greatest number of handles that sides of the row have."""
     check_row(row)
     check_size(row, MOST_SIDES)
-    return max(all_handles(row))
+    return max(handles_counted(row))
 
 
 def handles_spread(row):
     """Give, for each number from 0 to the greatest one, how many sides have so many handles."""
     check_row(row)
     check_size(row, MOST_SIDES)
-    numbers = all_handles(row)
-    return tuple([numbers.count(number) for number in range(max(numbers) + 1)])
+    counted = handles_counted(row)
+    return tuple([counted[number][0] if number in counted else 0 for number in range(max(counted) + 1)])
 
 
 def first_sides(row, number):
@@ -43,10 +43,8 @@ def one_region(row):
     """Give the first sides of which the drawing has just one region, None if there are none."""
     check_row(row)
     check_size(row, MOST_SIDES)
-    for sides in all_strings("+-", len(row) // 2):
-        if len(regions_of(row, sides)) == 1:
-            return sides
-    return None
+    counted = regions_counted(row)
+    return counted[1][1] if 1 in counted else None
 
 
 def two_shades(row, sides):
@@ -73,17 +71,24 @@ def two_shades(row, sides):
 
 def first_sides_of(row, number):
     """Give the first sides with so many handles of what is known to be a row, None if there are none."""
-    for sides in all_strings("+-", len(row) // 2):
-        if handles_of(row, sides) == number:
-            return sides
-    return None
+    counted = handles_counted(row)
+    return counted[number][1] if number in counted else None
 
 
 def least_of(row):
     """Give the least number of handles of what is known to be a row."""
-    return min(all_handles(row))
+    return min(handles_counted(row))
 
 
-def all_handles(row):
-    """List the numbers of handles of all sides of what is known to be a row."""
-    return [handles_of(row, sides) for sides in all_strings("+-", len(row) // 2)]
+def handles_counted(row):
+    """Give for each number of handles how many sides of the row have so many, and the first of these."""
+    counted = regions_counted(row)
+    return {handles_with(row, number): counted[number] for number in counted}
+
+
+def regions_counted(row):
+    """Give for each number of regions how many sides of the row make so many, and the first of these."""
+    first, *others = corners_of(row)
+    # A mirror has as many regions, so that half of all sides are enough, those that begin with a plus.
+    counted = counted_walks([{"+": first["+"]}, *others])
+    return {number: (2 * counted[number][0], counted[number][1]) for number in counted}

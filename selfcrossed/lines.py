@@ -1,13 +1,14 @@
 """Several lines that cross themselves and one another."""
 
 from selfcrossed.errors import InvalidIndex, InvalidLetter, InvalidLines, NoMove, TooMany
-from selfcrossed.flat import check_sides, onward_along
+from selfcrossed.flat import check_sides, corners_along, onward_along
 from selfcrossed.integers import is_from_to
 from selfcrossed.limits import MOST_LINES, MOST_SIDES
 from selfcrossed.links import count_in_both, stretch_of
 from selfcrossed.rows import ALPHABET, check_letter, check_size, letters_of
 from selfcrossed.strings import all_strings
-from selfcrossed.walks import edges_into, walks_of
+from selfcrossed.sweeps import counted_walks
+from selfcrossed.walks import edges_into, first_elements
 
 
 def lines_handles(lines, sides):
@@ -20,13 +21,13 @@ def lines_handles(lines, sides):
 def least_lines_handles(lines):
     """Give the least number of handles that sides of the lines have."""
     check_few_lines(lines)
-    return min([handles_of_lines(lines, sides) for sides in sides_of_lines(lines)])
+    return least_of_lines(lines)
 
 
 def are_flat(lines):
     """Tell whether some sides of the lines have no handles."""
     check_few_lines(lines)
-    return bool(flat_sides_of_lines(lines))
+    return least_of_lines(lines) == 0
 
 
 def flat_lines_sides(lines):
@@ -165,18 +166,27 @@ def edges_into_places(lines):
 
 def handles_of_lines(lines, sides):
     """Give the number of handles of what is known to be lines with sides."""
-    regions = walks_of(onward_along("".join(lines), sides, edges_into_places(lines)))
-    return (2 * count_parts(lines) + len(sides) - len(regions)) // 2
+    onward = onward_along("".join(lines), sides, edges_into_places(lines))
+    return handles_with(lines, len(first_elements(onward)))
 
 
-def sides_of_lines(lines):
-    """List all sides of the lines, ascending."""
-    return all_strings("+-", len("".join(lines)) // 2)
+def handles_with(lines, number):
+    """Give the number of handles of a drawing of the lines with so many regions."""
+    return (2 * count_parts(lines) + len("".join(lines)) // 2 - number) // 2
+
+
+def least_of_lines(lines):
+    """Give the least number of handles of what is known to be lines."""
+    corners = corners_along("".join(lines), edges_into_places(lines))
+    return handles_with(lines, max(counted_walks(corners)))
 
 
 def flat_sides_of_lines(lines):
-    """List all sides without handles, ascending."""
-    return [sides for sides in sides_of_lines(lines) if handles_of_lines(lines, sides) == 0]
+    """List all sides without handles, ascending, of what is known to be lines."""
+    if least_of_lines(lines) > 0:
+        return []
+    sides_of_all = all_strings("+-", len("".join(lines)) // 2)
+    return [sides for sides in sides_of_all if handles_of_lines(lines, sides) == 0]
 
 
 def plain_of_lines(lines):

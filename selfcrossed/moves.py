@@ -1,17 +1,17 @@
 """Moves: which lead from a drawing to another one, what they make of it and what they change."""
 
-from selfcrossed.changed import corners, drawing_behind, edge_without, new_letters, pair_of
-from selfcrossed.drawings import are_same_drawings, check_drawing, plain_of_drawing
+from selfcrossed.changed import corners, drawing_behind, edge_without, new_letters, pair_of, told_behind
+from selfcrossed.drawings import (
+    Drawing, check_drawing, plain_by, plain_of_drawing, plain_told, told_of, told_with,
+)
 from selfcrossed.errors import InvalidMove, InvalidMoves, InvalidNumber, TooMany
 from selfcrossed.integers import is_from_to, is_integer
 from selfcrossed.limits import MOST_LED, MOST_LETTERS, MOST_MOVES
 from selfcrossed.numbers import same_way_of, three_ways_of, turns_of
+from selfcrossed.rows import least_ways
 from selfcrossed.walks import edge_of
 
 MOST_SEARCHED = 3
-ALL_WORDS = ("loop", "no loop", "no pair", "pair", "three")
-WORDS_WITHOUT_LOOPS = ("no pair", "pair", "three")
-MORE_LETTERS = {"loop": 1, "no loop": -1, "no pair": -2, "pair": 2, "three": 0}
 
 
 def is_move(drawing, value):
@@ -64,8 +64,7 @@ def back(drawing, move):
         return "no loop", new[0]
     if move[0] == "pair":
         return "no pair", new[0], new[1]
-    found = [other for other in moves_back(drawing, move, after) if leads_to(after, other, drawing)]
-    return found[0]
+    return first_to(plain_told(told_of(drawing)), after, moves_back(drawing, move, after))
 
 
 def loosened(drawing):
@@ -77,26 +76,32 @@ def loosened(drawing):
 def by_threes(drawing):
     """Give the plain drawings, by their texts, of all that come from the drawing by moves "three" alone."""
     check_drawing(drawing)
-    start = plain_of_drawing(drawing)
-    reached = {start.text: start}
-    level = [start]
-    while level:
-        level = next_level(level, reached, ("three",), MOST_LETTERS)
-        if len(reached) > MOST_LED:
+    found = [plain_of_drawing(drawing)]
+    reached = {key_of(found[0]): True}
+    known = {}
+    index = 0
+    while index < len(found):
+        found.extend(new_behind(found[index], threes_of(found[index]), reached, known))
+        index += 1
+        if len(found) > MOST_LED:
             raise TooMany(MOST_LED)
-    return tuple([reached[text] for text in sorted(reached)])
+    by_text = {each.text: each for each in found}
+    return tuple([by_text[text] for text in sorted(by_text)])
 
 
 def fewest_moves(one, other, number):
     """Give the least number of moves that lead from the one drawing to the other, None if none do."""
     check_search(one, other, number)
-    return fewest_with(one, other, number, ALL_WORDS)
+    return fewest_with(one, other, number, moves_within)
 
 
 def without_loops(one, other, number):
     """Give the least number of moves without loops that lead from the one drawing to the other, None if none do."""
     check_search(one, other, number)
-    return fewest_with(one, other, number, WORDS_WITHOUT_LOOPS)
+    # Without loops the turns stay, but for the sign.
+    if abs(turns_of(one)) != abs(turns_of(other)):
+        return None
+    return fewest_with(one, other, number, moves_within_without_loops)
 
 
 def least_moves_of(one, other):
@@ -140,33 +145,71 @@ def is_move_of(drawing, value):
 
 def outs_of(drawing):
     """List all moves that lead to fewer letters, or as many, ascending."""
+    return sorted(threes_of(drawing) + loose_of(drawing))
+
+
+def inner_regions(drawing, number):
+    """List the regions with so many edges, ascending, that are not the outside."""
+    return [region for region in drawing.regions if len(region) == number and region != drawing.outside]
+
+
+def threes_of(drawing):
+    """List the moves "three" of the drawing, ascending."""
+    inner = inner_regions(drawing, 3)
+    return [("three", region[0]) for region in inner if len(set(corners(drawing.row, region))) == 3]
+
+
+def loose_of(drawing):
+    """List the moves "no loop" and "no pair" of the drawing, ascending."""
     row = drawing.row
-    inner = [region for region in drawing.regions if region != drawing.outside]
-    moves = [("three", region[0]) for region in inner if is_three(corners(row, region))]
+    moves = []
     if drawing.size > 1:
-        loops = [region for region in inner if len(region) == 1]
-        moves.extend([("no loop", corners(row, region)) for region in loops])
+        moves.extend([("no loop", corners(row, region)) for region in inner_regions(drawing, 1)])
     if drawing.size > 2:
-        pairs = [pair_of(row, region) for region in inner]
+        pairs = [pair_of(row, region) for region in inner_regions(drawing, 2)]
         moves.extend([("no pair", pair[0], pair[1]) for pair in pairs if pair is not None])
     return sorted(moves)
-
-
-def is_three(letters):
-    """Tell whether these are the corners of a region with three edges and three unlike letters."""
-    return len(letters) == 3 and len(set(letters)) == 3
 
 
 def ins_of(drawing):
     """List all moves that lead to more letters, ascending."""
     moves = []
     if drawing.size < MOST_LETTERS:
-        moves.extend([("loop", edge, way) for edge in range(len(drawing.row)) for way in "lr"])
+        moves.extend(loops_of(drawing))
     if drawing.size < MOST_LETTERS - 1:
-        for region in drawing.regions:
-            parts = (0, 1) if region == drawing.outside else (0,)
-            moves.extend([("pair", one, other, part) for one in region for other in region for part in parts])
+        moves.extend(pairs_of(drawing))
     return sorted(moves)
+
+
+def loops_of(drawing):
+    """List the moves "loop" of the drawing."""
+    return [("loop", edge, way) for edge in range(len(drawing.row)) for way in "lr"]
+
+
+def pairs_of(drawing):
+    """List the moves "pair" of the drawing."""
+    moves = []
+    for region in drawing.regions:
+        parts = (0, 1) if region == drawing.outside else (0,)
+        moves.extend([("pair", one, other, part) for one in region for other in region for part in parts])
+    return moves
+
+
+def moves_within(drawing, number):
+    """List the moves of the drawing that lead to at most so many letters."""
+    moves = moves_within_without_loops(drawing, number)
+    moves.extend([move for move in loose_of(drawing) if move[0] == "no loop"])
+    if drawing.size < number:
+        moves.extend(loops_of(drawing))
+    return moves
+
+
+def moves_within_without_loops(drawing, number):
+    """List the moves of the drawing that lead to at most so many letters, and neither make a loop nor pull one out."""
+    moves = threes_of(drawing) + [move for move in loose_of(drawing) if move[0] == "no pair"]
+    if drawing.size < number - 1:
+        moves.extend(pairs_of(drawing))
+    return moves
 
 
 def drawing_led(drawing, moves):
@@ -181,21 +224,35 @@ def drawing_led(drawing, moves):
     return now
 
 
-def leads_to(drawing, move, other):
-    """Tell whether the move leads to a drawing that is the same as the other one."""
-    return are_same_drawings(drawing_behind(drawing, move), other)
+def plain_behind(drawing, move, known):
+    """Give what the plain drawing of the drawing behind the move is made of.
+
+    `known` keeps what was found for rows that were asked.
+    """
+    row, sides, element = told_behind(drawing, move)
+    if row not in known:
+        known[row] = least_ways(row)
+    return plain_by(told_with(row, sides, element), known[row])
 
 
 def moves_back(drawing, move, after):
-    """List the moves of the drawing behind a move of `outs` among which those are that lead back."""
+    """List the moves, ascending, of the drawing behind a move of `outs` among which those are that lead back."""
     if move[0] == "three":
-        return [other for other in outs_of(after) if other[0] == "three"]
+        return threes_of(after)
     gone = "".join(move[1:])
     edges = [edge_without(drawing.row, place, gone) for place, letter in enumerate(drawing.row) if letter in gone]
     if move[0] == "no loop":
-        return [other for other in ins_of(after) if other[0] == "loop" and other[1] in edges]
-    pairs = [other for other in ins_of(after) if other[0] == "pair"]
-    return [other for other in pairs if edge_of(other[1]) in edges and edge_of(other[2]) in edges]
+        return [other for other in loops_of(after) if other[1] in edges]
+    return sorted([other for other in pairs_of(after) if edge_of(other[1]) in edges and edge_of(other[2]) in edges])
+
+
+def first_to(goal, drawing, moves):
+    """Give the first of these moves that leads to a drawing of which the plain one is the goal, None if none does."""
+    known = {}
+    for move in moves:
+        if plain_behind(drawing, move, known) == goal:
+            return move
+    return None
 
 
 def loosening_of(drawing):
@@ -210,40 +267,43 @@ def loosening_of(drawing):
     return tuple(found)
 
 
-def loose_of(drawing):
-    """List the moves "no loop" and "no pair" of the drawing."""
-    return [move for move in outs_of(drawing) if move[0] != "three"]
-
-
 def five_numbers(drawing):
     """List the number of letters, the turns, P, M and S."""
     same = same_way_of(drawing)
     return [drawing.size, turns_of(drawing), same, same - drawing.size, three_ways_of(drawing)]
 
 
-def fewest_with(one, other, number, words):
-    """Give the least number of moves with these words that lead from the one to the other, None if none do."""
+def fewest_with(one, other, number, list_moves):
+    """Give the least number of moves of those listed that lead from the one to the other, None if none do."""
     if one.size > number or other.size > number:
         return None
-    start = plain_of_drawing(one)
-    goal = plain_of_drawing(other).text
-    reached = {start.text: start}
-    level = [start]
+    goal = plain_told(told_of(other))
+    level = [plain_of_drawing(one)]
+    reached = {key_of(level[0]): True}
+    known = {}
     steps = 0
     while level and goal not in reached:
-        level = next_level(level, reached, words, number)
+        following = []
+        for drawing in level:
+            if goal not in reached:
+                following.extend(new_behind(drawing, list_moves(drawing, number), reached, known))
+        level = following
         steps += 1
     return steps if goal in reached else None
 
 
-def next_level(level, reached, words, number):
-    """List the plain drawings one move behind those of a level that are not reached yet, and put them in there."""
+def key_of(plain):
+    """Give what `plain_told` tells of what is a plain drawing."""
+    return plain.row, plain.sides, plain.outside[0]
+
+
+def new_behind(drawing, moves, reached, known):
+    """List the plain drawings behind these moves of the drawing that are not reached yet, and put them in there."""
     found = []
-    for drawing in level:
-        for move in outs_of(drawing) + ins_of(drawing):
-            if move[0] in words and drawing.size + MORE_LETTERS[move[0]] <= number:
-                plain = plain_of_drawing(drawing_behind(drawing, move))
-                if plain.text not in reached:
-                    reached[plain.text] = plain
-                    found.append(plain)
+    for move in moves:
+        told = plain_behind(drawing, move, known)
+        if told not in reached:
+            reached[told] = True
+            row, sides, element = told
+            found.append(Drawing(row, sides, element))
     return found

@@ -1,12 +1,14 @@
 """Numbers of a drawing: of its regions, its letters and its turns, and the three numbers P, M and S."""
 
-from selfcrossed.drawings import Drawing, all_drawings_of, check_drawing
+from selfcrossed.drawings import Drawing, check_drawing
 from selfcrossed.errors import InvalidAreas, InvalidNumber, NotFlat
-from selfcrossed.flat import flat_sides_of, is_flat
+from selfcrossed.flat import flat_sides_of, is_flat_row
 from selfcrossed.integers import is_from_to
 from selfcrossed.limits import MOST_AREA, MOST_SIDES
-from selfcrossed.rows import ALPHABET, check_place, check_row, check_size, letters_of
-from selfcrossed.walks import edge_of
+from selfcrossed.measures import (
+    least_same_way_of, lefts_from, number_beside, numbers_at_letters, same_way_from, signs_from, turns_of_half,
+)
+from selfcrossed.rows import ALPHABET, check_place, check_row, check_size
 
 MOST_ASKED = 100
 MOST_STANDARD = 9
@@ -28,7 +30,7 @@ def signs(drawing, edge):
     """Give the sign of each letter, ascending, from this edge on."""
     check_drawing(drawing)
     check_place(drawing.row, edge)
-    return tuple(signs_from(drawing, edge))
+    return tuple(signs_of(drawing, edge))
 
 
 def twice_mean(drawing, edge):
@@ -85,13 +87,13 @@ def rings(drawing):
 def most_turns(row):
     """Give the greatest number of turns that a drawing of the row has."""
     check_flat(row)
-    return max(all_turns_of(row))
+    return max([abs(number) for number in turns_of_half(row)])
 
 
 def least_same_way(row):
     """Give the least P that a drawing of the row has."""
     check_flat(row)
-    return min([same_way_of(drawing) for drawing in all_drawings_of(row)])
+    return least_same_way_of(row)
 
 
 def turns_spread(row):
@@ -106,7 +108,7 @@ def outsides_with(drawing, number):
     check_drawing(drawing)
     if not is_from_to(number, -MOST_ASKED, MOST_ASKED):
         raise InvalidNumber(number)
-    return tuple([region for region, told in zip(drawing.regions, turns_by_outside(drawing)) if told == number])
+    return tuple(outsides_for(drawing, number))
 
 
 def standard(number):
@@ -114,11 +116,12 @@ def standard(number):
     if not is_from_to(number, -MOST_STANDARD, MOST_STANDARD):
         raise InvalidNumber(number)
     row = "".join([letter + letter for letter in ALPHABET[:letters_for_turns(number)]])
+    # The sides stand ahead of the outside in a text, so that the first sides that will do are those of the first text.
     found = {}
-    for drawing in one_drawing_of_sides(row):
-        for region, told in zip(drawing.regions, turns_by_outside(drawing)):
-            if told == number:
-                turned = Drawing(row, drawing.sides, region[0])
+    for sides in flat_sides_of(row):
+        if not found:
+            for region in outsides_for(Drawing(row, sides, 0), number):
+                turned = Drawing(row, sides, region[0])
                 found[turned.text] = turned
     return found[min(found)]
 
@@ -135,28 +138,16 @@ def check_sizes(drawing, sizes):
 def check_flat(row):
     """Raise the error for what is no flat row of at most eight letters."""
     check_row(row)
-    if not is_flat(row):
+    if not is_flat_row(row):
         raise NotFlat()
     check_size(row, MOST_SIDES)
 
 
 def lefts_of(drawing):
     """List for each edge the number of the region to its left."""
-    row = drawing.row
-    side_of = dict(zip(letters_of(row), drawing.sides))
-    lefts = [0]
-    for place in range(1, len(row)):
-        is_later = row[place] in row[:place]
-        # Whoever comes across the other passing from its right to its left has 1 more on both hands then.
-        rises = is_later == (side_of[row[place]] == "+")
-        lefts.append(lefts[-1] + (1 if rises else -1))
+    lefts = lefts_from(drawing.row, drawing.sides)
     outside = number_beside(lefts, drawing.outside[0])
     return [left - outside for left in lefts]
-
-
-def number_beside(lefts, element):
-    """Give the number of the region to the left of the element."""
-    return lefts[element] if element >= 0 else lefts[edge_of(element)] - 1
 
 
 def numbers_of_regions(drawing):
@@ -167,21 +158,12 @@ def numbers_of_regions(drawing):
 
 def numbers_of_letters(drawing):
     """List the number of each letter, ascending."""
-    lefts = lefts_of(drawing)
-    row = drawing.row
-    # Of the edges that lead to a place and from it the one has at its left the letter's number, the other 1 more.
-    return [min(lefts[row.find(letter) - 1], lefts[row.find(letter)]) for letter in letters_of(row)]
+    return numbers_at_letters(drawing.row, lefts_of(drawing))
 
 
-def signs_from(drawing, edge):
+def signs_of(drawing, edge):
     """List the sign of each letter, ascending, from this edge on."""
-    row = drawing.row
-    found = []
-    for letter, side in zip(letters_of(row), drawing.sides):
-        # Behind the edge one comes first to the later place of a letter that has just one place ahead of it.
-        is_exchanged = row[:edge + 1].count(letter) == 1
-        found.append(1 if is_exchanged == (side == "+") else -1)
-    return found
+    return signs_from(drawing.row, drawing.sides, edge)
 
 
 def twice_mean_of(drawing, edge):
@@ -191,20 +173,18 @@ def twice_mean_of(drawing, edge):
 
 def turns_of(drawing):
     """Give the turns of what is known to be a drawing."""
-    return twice_mean_of(drawing, 0) + sum(signs_from(drawing, 0))
+    return twice_mean_of(drawing, 0) + sum(signs_of(drawing, 0))
 
 
 def same_way_of(drawing):
     """Give P of what is known to be a drawing."""
-    of_regions = sum([number * number for number in numbers_of_regions(drawing)])
-    of_letters = sum([number * number for number in numbers_of_letters(drawing)])
-    return 1 + drawing.size - of_regions + of_letters
+    return same_way_from(numbers_of_regions(drawing), numbers_of_letters(drawing))
 
 
 def three_ways_of(drawing):
     """Give S of what is known to be a drawing."""
     doubled = twice_mean_of(drawing, 0)
-    of_letters = sum([sign * number for sign, number in zip(signs_from(drawing, 0), numbers_of_letters(drawing))])
+    of_letters = sum([sign * number for sign, number in zip(signs_of(drawing, 0), numbers_of_letters(drawing))])
     # Twice the mean is odd, so that its square less 1 is a multiple of 4.
     return (doubled * doubled - 1) // 4 + of_letters
 
@@ -230,21 +210,17 @@ def other_place(row, place):
     return row.find(row[place]) + row.rfind(row[place]) - place
 
 
-def one_drawing_of_sides(row):
-    """List one drawing for each flat sides of the row."""
-    return [Drawing(row, sides, 0) for sides in flat_sides_of(row)]
-
-
-def turns_by_outside(drawing):
-    """List for each region the turns that the drawing has with it as the outside."""
+def outsides_for(drawing, number):
+    """List the regions, ascending, with which as the outside the drawing has so many turns."""
     # With another outside all numbers have the new one's taken from them, and the signs stay.
     own = turns_of(drawing)
-    return [own - 2 * number for number in numbers_of_regions(drawing)]
+    return [region for region, told in zip(drawing.regions, numbers_of_regions(drawing)) if own - 2 * told == number]
 
 
 def all_turns_of(row):
     """List the turns of all flat sides with each outside."""
-    return [told for drawing in one_drawing_of_sides(row) for told in turns_by_outside(drawing)]
+    found = turns_of_half(row)
+    return found + [-number for number in found]
 
 
 def letters_for_turns(number):

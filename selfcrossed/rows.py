@@ -13,7 +13,9 @@ def is_row(value):
     """Tell whether any value is a row."""
     if not isinstance(value, str) or not 2 <= len(value) <= 2 * MOST_LETTERS:
         return False
-    return all([sign in ALPHABET and value.count(sign) == 2 for sign in value])
+    counts = [value.count(letter) for letter in ALPHABET]
+    # Together they are all signs only if no other sign stands in it.
+    return sum(counts) == len(value) and counts.count(2) + counts.count(0) == len(counts)
 
 
 def letters(row):
@@ -67,7 +69,8 @@ def is_same(one, other):
 def ways_to_itself(row):
     """Count the ways to begin and to go that give the row but for other letters."""
     check_row(row)
-    return ways_round(row).count(first_named(row))
+    # As many ways lead to each row that any way leads to.
+    return len(least_ways(row)[1])
 
 
 def count_rows(number):
@@ -143,27 +146,63 @@ def begun_from(row, place):
 
 def first_named(row):
     """Give the row other letters, so that they come first in the order of the alphabet."""
-    others = {}
-    for letter in row:
-        if letter not in others:
-            others[letter] = ALPHABET[len(others)]
+    # A dict keeps the order in which the letters first stand.
+    others = dict(zip({letter: True for letter in row}, ALPHABET))
     return "".join([others[letter] for letter in row])
-
-
-def ways_round(row):
-    """List what all ways to begin and to go make of the row, its letters named by `first_named`."""
-    ways = []
-    for place in range(len(row)):
-        way = begun_from(row, place)
-        ways.append(first_named(way))
-        ways.append(first_named(way[::-1]))
-    return ways
 
 
 def plain_of(row):
     """Give the plain row of what is known to be a row."""
-    # Of all namings of one way round, the one by `first_named` is the least.
-    return min(ways_round(row))
+    return least_ways(row)[0]
+
+
+def least_ways(row):
+    """Give the plain row and the ways to begin and to go that lead to it.
+
+    Each way is told by the place at which one begins and by 0; if the row is read backwards, by the place of the row
+    read so and by 1.
+    """
+    ways = short_ways(row)
+    least = min([told for told, _, _ in ways])
+    found = [(start, turn) for told, start, turn in ways if told == least]
+    start, turn = found[0]
+    # Of all namings of one way, the one by `first_named` is the least.
+    return first_named(begun_from(row[::-1] if turn == 1 else row, start)), found
+
+
+def short_ways(row):
+    """List the ways on which the first letter comes again soonest, each one behind what tells its row.
+
+    A row is told by a number for each place: by how many places its letter stands ahead of it, below 0, and by 0 where
+    its letter is new. Rows named by `first_named` ascend as what tells them does: where two of them are unlike for the
+    first time, a letter is the less the further ahead it stands, and a new one is greater than all others. So the least
+    ones are among these ways, as they have the fewest new letters ahead of the first one that comes again.
+    """
+    size = len(row)
+    backs = distances_back(row)
+    nearest = min(backs)
+    found = []
+    for turn, distances in enumerate((backs, [size - back for back in backs[::-1]])):
+        twice = distances + distances
+        for place, distance in enumerate(distances):
+            if distance == nearest:
+                start = (place - nearest) % size
+                way = twice[start:start + size]
+                found.append(([-back if back <= index else 0 for index, back in enumerate(way)], start, turn))
+    return found
+
+
+def distances_back(row):
+    """List for each place by how many places one must go back round the row to the other place of its letter."""
+    first = {}
+    found = [0] * len(row)
+    for place, letter in enumerate(row):
+        if letter in first:
+            found[place] = place - first[letter]
+            found[first[letter]] = len(row) - found[place]
+        else:
+            first[letter] = place
+    return found
 
 
 def count_ends(waiting, unused):

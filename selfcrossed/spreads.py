@@ -7,7 +7,7 @@ from selfcrossed.integers import is_from_to, is_integer
 from selfcrossed.limits import MOST_SIDES
 from selfcrossed.links import stretch_of
 from selfcrossed.rows import check_letter, check_row, check_size
-from selfcrossed.turnings import ALL_TURNINGS, counts_of_rounds, turnings_of
+from selfcrossed.turnings import ALL_TURNINGS, rounds_counted
 
 MOST_VALUE = 10 ** 6
 
@@ -15,14 +15,14 @@ MOST_VALUE = 10 ** 6
 def spread_along(row):
     """Give the polynomial that tells how many turnings without `x` make how many rounds."""
     check_row(row)
-    return spread_of(counts_of_rounds(row, "=o"))
+    return spread_of(rounds_counted(row, "=o"))
 
 
 def spread_in_all(row):
     """Give the polynomial that tells how many turnings make how many rounds."""
     check_row(row)
     check_size(row, MOST_SIDES)
-    return spread_of(counts_of_rounds(row, ALL_TURNINGS))
+    return spread_of(rounds_counted(row, ALL_TURNINGS))
 
 
 def value_at(polynomial, number):
@@ -60,23 +60,23 @@ def greatest_rounds(row):
     """Give the greatest number of rounds that any turnings make."""
     check_row(row)
     check_size(row, MOST_SIDES)
-    return max(counts_of_rounds(row, ALL_TURNINGS))
+    return max(rounds_counted(row, ALL_TURNINGS))
 
 
 def first_greatest(row):
     """Give the first turnings that make the greatest number of rounds."""
     check_row(row)
     check_size(row, MOST_SIDES)
-    counts = counts_of_rounds(row, ALL_TURNINGS)
-    return turnings_of(row, ALL_TURNINGS)[counts.index(max(counts))]
+    counted = rounds_counted(row, ALL_TURNINGS)
+    return counted[max(counted)][1]
 
 
 def chance_of_one(row):
     """Give the part of all turnings that make one round, as top and bottom without a common divisor."""
     check_row(row)
     check_size(row, MOST_SIDES)
-    counts = counts_of_rounds(row, ALL_TURNINGS)
-    top, bottom = counts.count(1), len(counts)
+    counted = rounds_counted(row, ALL_TURNINGS)
+    top, bottom = counted[1][0], sum([counted[number][0] for number in counted])
     divisor = gcd(top, bottom)
     return top // divisor, bottom // divisor
 
@@ -103,6 +103,6 @@ def check_letters(row, letters):
         raise InvalidLetters(None)
 
 
-def spread_of(counts):
-    """Give the polynomial that has for the power k the number of those that count k + 1."""
-    return tuple([counts.count(number) for number in range(1, max(counts) + 1)])
+def spread_of(counted):
+    """Give the polynomial that has for the power k how many are counted for the number k + 1."""
+    return tuple([counted[number][0] if number in counted else 0 for number in range(1, max(counted) + 1)])

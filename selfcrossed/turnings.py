@@ -5,7 +5,8 @@ from selfcrossed.limits import MOST_SIDES
 from selfcrossed.links import rank_of, table_of
 from selfcrossed.rows import check_row, check_size, letters_of, plain_of
 from selfcrossed.strings import all_strings
-from selfcrossed.walks import edge_of, edges_into, end_of, leaving, walks_of
+from selfcrossed.sweeps import counted_walks
+from selfcrossed.walks import edge_of, edges_into, end_of, leaving, onward_by, walk_from, walks_of
 
 MOST_TOURED = 6
 ALL_TURNINGS = "=ox"
@@ -53,14 +54,14 @@ def count_tours(row):
     """Count the turnings that make one round."""
     check_row(row)
     check_size(row, MOST_SIDES)
-    return counts_of_rounds(row, ALL_TURNINGS).count(1)
+    return rounds_counted(row, ALL_TURNINGS)[1][0]
 
 
 def tours_along(row):
     """Count the turnings without `x` that make one round."""
     check_row(row)
     check_size(row, MOST_SIDES)
-    return counts_of_rounds(row, "=o").count(1)
+    return rounds_counted(row, "=o")[1][0]
 
 
 def one_web(one, other):
@@ -113,27 +114,28 @@ def turnings_to(one, other):
     if len(one) != len(other):
         return None
     goal = plain_of(other)
-    for turnings in turnings_of(one, ALL_TURNINGS):
-        row = tour_of(one, turnings)
-        if row is not None and plain_of(row) == goal:
+    for turnings, row in all_tours_of(one):
+        if plain_of(row) == goal:
             return turnings
     return None
 
 
-def turnings_of(row, kinds):
-    """List all turnings of the row of these kinds, ascending if the kinds are."""
-    return all_strings(kinds, len(row) // 2)
+def joints_of(row):
+    """Give the choices of turnings at the letters of the row, told as in `walks`."""
+    into = edges_into(0, len(row))
+    choices = []
+    for letter in letters_of(row):
+        ways_out = leaving(row, letter, into)
+        choices.append({
+            turning: [(-1 - ways_out[index], ways_out[JOINED[turning][index]]) for index in range(4)]
+            for turning in ALL_TURNINGS
+        })
+    return choices
 
 
 def rounds_of(row, turnings):
     """List the rounds, ascending, that what is known to be turnings makes."""
-    onward = [0] * (2 * len(row))
-    into = edges_into(0, len(row))
-    for letter, turning in zip(letters_of(row), turnings):
-        ways_out = leaving(row, letter, into)
-        for index in range(4):
-            onward[-1 - ways_out[index]] = ways_out[JOINED[turning][index]]
-    return one_way_each(walks_of(onward))
+    return one_way_each(walks_of(onward_by(joints_of(row), turnings)))
 
 
 def one_way_each(walks):
@@ -154,18 +156,34 @@ def turned_table(row, turnings):
 
 def tour_of(row, turnings):
     """Give the tour that what is known to be turnings makes, None if there is not just one round."""
-    found = rounds_of(row, turnings)
-    if len(found) > 1:
+    return tour_along(row, onward_by(joints_of(row), turnings))
+
+
+def tour_along(row, onward):
+    """Give the tour along which each element is followed by the one told, None if there is not just one round."""
+    # The least round begins with the last edge backwards, and the only one goes along all edges.
+    walk = walk_from(onward, -len(row))
+    if len(walk) < len(row):
         return None
-    return "".join([row[end_of(element, len(row))] for element in found[0]])
+    return "".join([row[end_of(element, len(row))] for element in walk])
+
+
+def all_tours_of(row):
+    """List all turnings that make one round, ascending, each with the tour that they make."""
+    joints = joints_of(row)
+    all_turnings = all_strings(ALL_TURNINGS, len(row) // 2)
+    made = [(turnings, tour_along(row, onward_by(joints, turnings))) for turnings in all_turnings]
+    return [(turnings, tour) for turnings, tour in made if tour is not None]
 
 
 def plain_tours_of(row):
     """List the plain rows, unlike ones, of all tours of the row, ascending."""
-    made = [tour_of(row, turnings) for turnings in turnings_of(row, ALL_TURNINGS)]
-    return sorted({plain_of(other) for other in made if other is not None})
+    return sorted({plain_of(other) for _, other in all_tours_of(row)})
 
 
-def counts_of_rounds(row, kinds):
-    """List how many rounds all turnings of these kinds make, in the order of the turnings."""
-    return [len(rounds_of(row, turnings)) for turnings in turnings_of(row, kinds)]
+def rounds_counted(row, kinds):
+    """Give for each number of rounds how many turnings of these kinds make so many, and the first of these."""
+    choices = [{kind: pairs_of[kind] for kind in kinds} for pairs_of in joints_of(row)]
+    counted = counted_walks(choices)
+    # Each round is walked both ways.
+    return {number // 2: counted[number] for number in counted}
