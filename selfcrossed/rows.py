@@ -176,19 +176,22 @@ def short_ways(row):
     A row is told by a number for each place: by how many places its letter stands ahead of it, below 0, and by 0 where
     its letter is new. Rows named by `first_named` ascend as what tells them does: where two of them are unlike for the
     first time, a letter is the less the further ahead it stands, and a new one is greater than all others. So the least
-    ones are among these ways, as they have the fewest new letters ahead of the first one that comes again.
+    ones are among these ways, as they have the fewest new letters ahead of the first one that comes again. Up to that
+    one these ways are alike, so that they are told from behind it on.
     """
     size = len(row)
     backs = distances_back(row)
     nearest = min(backs)
+    behind = nearest + 1
     found = []
     for turn, distances in enumerate((backs, [size - back for back in backs[::-1]])):
         twice = distances + distances
         for place, distance in enumerate(distances):
             if distance == nearest:
                 start = (place - nearest) % size
-                way = twice[start:start + size]
-                found.append(([-back if back <= index else 0 for index, back in enumerate(way)], start, turn))
+                way = twice[start + behind:start + size]
+                told = [-back if back <= index else 0 for index, back in enumerate(way, start=behind)]
+                found.append((told, start, turn))
     return found
 
 
