@@ -32,7 +32,8 @@ def is_row(value):
     """Tell whether any value is a row."""
     if not isinstance(value, str) or not 1 <= len(value) <= 2 * MOST_LETTERS:
         return False
-    return all([sign in LETTERS and value.count(sign) == 2 for sign in value])
+    times = [value.count(letter) for letter in LETTERS]
+    return times.count(2) + times.count(0) == len(times) and sum(times) == len(value)
 
 
 def are_lines(value):
@@ -59,18 +60,7 @@ def places_in(text, letter):
     return [place for place, sign in enumerate(text) if sign == letter]
 
 
-def half_edges(lines, letter):
-    """List the half edges at the letter: out of its earlier place, out of its later one, into both.
-
-    Each one is told by the element that leaves the letter along it.
-    """
-    text = "".join(lines)
-    earlier, later = places_in(text, letter)
-    edges = edges_into(lines)
-    return [earlier, later, -1 - edges[earlier], -1 - edges[later]]
-
-
-def edges_into(lines):
+def edges_to(lines):
     """List for each place the edge that leads to it."""
     found = []
     for line in lines:
@@ -79,31 +69,75 @@ def edges_into(lines):
     return found
 
 
+def half_edges(text, edges, letter):
+    """List the half edges at the letter: out of its earlier place, out of its later one, into both.
+
+    Each one is told by the element that leaves the letter along it. The edges are those that lead to the places.
+    """
+    earlier, later = text.find(letter), text.rfind(letter)
+    return [earlier, later, -1 - edges[earlier], -1 - edges[later]]
+
+
+def turn_left(onward, edges, one, other):
+    """Put what is gone along behind the elements that lead to a letter so that a region is kept to the left.
+
+    The letter's places are told first that at which the other passing goes to the left, then the other one.
+    """
+    # One turns left onto the other passing, along it or against it.
+    onward[edges[one]] = other
+    onward[-1 - one] = -1 - edges[other]
+    onward[edges[other]] = -1 - edges[one]
+    onward[-1 - other] = one
+
+
+def onward_with(lines, sides):
+    """List for each element, below 0 as an index from the end, the one behind it that keeps a region to the left."""
+    text = "".join(lines)
+    edges = edges_to(lines)
+    onward = [0] * (2 * len(text))
+    for letter, side in zip(letters_in(text), sides):
+        earlier, later = text.find(letter), text.rfind(letter)
+        if side == "+":
+            turn_left(onward, edges, earlier, later)
+        else:
+            turn_left(onward, edges, later, earlier)
+    return onward
+
+
 def regions_of(lines, sides):
     """List the regions, ascending, each one from its least element on."""
-    onward = {}
-    for letter, side in zip(letters_in("".join(lines)), sides):
-        out, later_out, back, later_back = half_edges(lines, letter)
-        ring = [out, later_out, back, later_back] if side == "+" else [out, later_back, back, later_out]
-        for half, following in zip(ring, ring[1:] + ring[:1]):
-            # Who comes along one half edge has turned round on it, and goes on by the one next to it with the clock.
-            onward[-1 - following] = half
-    return closed_walks(onward)
+    return closed_walks(onward_with(lines, sides))
 
 
 def closed_walks(onward):
     """List the walks, ascending, by elements each of which is followed by the one that is told."""
-    left = {element: True for element in onward}
+    half = len(onward) // 2
+    gone = [False] * len(onward)
     found = []
-    for first in sorted(onward):
-        walk = []
-        element = first
-        while element in left:
-            del left[element]
-            walk.append(element)
-            element = onward[element]
-        if walk:
+    for first in range(-half, half):
+        if not gone[first]:
+            walk = []
+            element = first
+            while not gone[element]:
+                gone[element] = True
+                walk.append(element)
+                element = onward[element]
             found.append(tuple(walk))
+    return found
+
+
+def count_walks(onward):
+    """Count the walks that `closed_walks` lists."""
+    half = len(onward) // 2
+    gone = [False] * len(onward)
+    found = 0
+    for first in range(-half, half):
+        if not gone[first]:
+            found += 1
+            element = first
+            while not gone[element]:
+                gone[element] = True
+                element = onward[element]
     return found
 
 
@@ -124,20 +158,27 @@ def parts_among(lines):
 
 def handles_of(lines, sides):
     """Count the handles of the lines with these sides."""
-    return (2 * parts_among(lines) + len(sides) - len(regions_of(lines, sides))) // 2
-
-
-def all_sides(number):
-    """List all sides of so many letters."""
-    found = [""]
-    for _ in range(number):
-        found = [sides + side for sides in found for side in "+-"]
-    return found
+    return (2 * parts_among(lines) + len(sides) - count_walks(onward_with(lines, sides))) // 2
 
 
 def least_handles(row):
-    """Give the least number of handles that any sides of the row have."""
-    return min([handles_of((row,), sides) for sides in all_sides(len(row) // 2)])
+    """Give the least number of handles that any sides of the row have, all sides being tried until there are none."""
+    places = [(row.find(letter), row.rfind(letter)) for letter in letters_in(row)]
+    edges = edges_to((row,))
+    onward = onward_with((row,), "+" * len(places))
+    regions = count_walks(onward)
+    # Mirrored sides have as many, so that the last letter can keep its side. From one choice to the next one the letter
+    # is turned over that the last digit 1 of the choice's number tells, so that no choice comes twice.
+    choices = 1 << (len(places) - 1)
+    for number in range(1, choices):
+        if regions == len(places) + 2:
+            break
+        index = (number & -number).bit_length() - 1
+        one, other = places[index]
+        places[index] = other, one
+        turn_left(onward, edges, other, one)
+        regions = max(regions, count_walks(onward))
+    return (len(places) + 2 - regions) // 2
 
 
 def are_linked(row, one, other):
@@ -191,9 +232,10 @@ def tells_not_flat(row, value):
 
 def rounds_of(row, turnings):
     """List the rounds, ascending, that the turnings make."""
-    onward = {}
+    onward = [0] * (2 * len(row))
+    edges = edges_to((row,))
     for letter, turning in zip(letters_in(row), turnings):
-        out, later_out, back, later_back = half_edges((row,), letter)
+        out, later_out, back, later_back = half_edges(row, edges, letter)
         joined = [(out, back), (later_out, later_back)]
         if turning == "o":
             joined = [(out, later_back), (later_out, back)]
@@ -258,4 +300,5 @@ def without(row, gone):
 
 def is_flat_or_nothing(row):
     """Tell whether the row is flat or has no letter."""
-    return row == "" or least_handles(row) == 0
+    # No flat row has a letter that is linked with oddly many, and so has oddly many places between its own.
+    return row == "" or (set(row[::2]) == set(row[1::2]) and least_handles(row) == 0)

@@ -6,8 +6,9 @@ Of the other modules of the package it uses the limits alone, and those that are
 from itertools import combinations
 
 from selfcrossed.checked_drawings import (
-    are_numbers, are_same, drawing_in, moved, opposite_way_of, same_way_of, three_ways_of, turns_of,
+    are_numbers, measured_in, opposite_way_measured, same_way_measured, sheet_in, three_ways_measured, turns_measured,
 )
+from selfcrossed.checked_moves import are_one_drawing, drawing_on, moved
 from selfcrossed.checked_rows import (
     are_integers, are_lines, are_one_line, are_sides, handles_of, is_flat_or_nothing, is_number, is_row, is_text_of,
     leads_to, least_handles, letters_in, rounds_of, tells_not_flat, tour_of, without,
@@ -108,69 +109,70 @@ def check_one_web(claim, paper):
 
 def check_led(claim, paper):
     """Check that moves lead from one drawing to another one."""
-    now, goal = drawing_in(claim[1]), drawing_in(claim[2])
-    if now is None or goal is None or not isinstance(paper, tuple) or len(paper) > MOST_MOVES:
+    start, goal = sheet_in(claim[1]), sheet_in(claim[2])
+    if start is None or goal is None or not isinstance(paper, tuple) or len(paper) > MOST_MOVES:
         return False
+    now = drawing_on(start)
     for move in paper:
         now = moved(now, move)
         if now is None:
             return False
-    return are_same(now, goal)
+    return are_one_drawing(now, drawing_on(goal))
 
 
 def check_turns(claim, paper):
     """Check that a drawing has so many turns."""
-    drawing = drawing_with_numbers(claim, paper)
-    return drawing is not None and turns_of(drawing) == claim[2]
+    measured = measured_by(claim, paper)
+    return measured is not None and turns_measured(measured) == claim[2]
 
 
 def check_same_way(claim, paper):
     """Check that P of a drawing is so."""
-    drawing = drawing_with_numbers(claim, paper)
-    return drawing is not None and same_way_of(drawing) == claim[2]
+    measured = measured_by(claim, paper)
+    return measured is not None and same_way_measured(measured) == claim[2]
 
 
 def check_opposite_way(claim, paper):
     """Check that M of a drawing is so."""
-    drawing = drawing_with_numbers(claim, paper)
-    return drawing is not None and opposite_way_of(drawing) == claim[2]
+    measured = measured_by(claim, paper)
+    return measured is not None and opposite_way_measured(measured) == claim[2]
 
 
 def check_three_ways(claim, paper):
     """Check that S of a drawing is so."""
-    drawing = drawing_with_numbers(claim, paper)
-    return drawing is not None and three_ways_of(drawing) == claim[2]
+    measured = measured_by(claim, paper)
+    return measured is not None and three_ways_measured(measured) == claim[2]
 
 
-def drawing_with_numbers(claim, paper):
-    """Give the claimed drawing if the claim has a number and the paper those of the regions, otherwise None."""
-    drawing = drawing_in(claim[1])
-    if drawing is None or not is_number(claim[2], -MOST_NUMBER, MOST_NUMBER) or not are_numbers(drawing, paper):
+def measured_by(claim, paper):
+    """Give what is measured of the drawing if the claim has a number and the paper those of its regions, or None."""
+    measured = measured_in(claim[1])
+    if measured is None or not is_number(claim[2], -MOST_NUMBER, MOST_NUMBER) or not are_numbers(measured, paper):
         return None
-    return drawing
+    return measured
 
 
 def check_apart(claim, paper):
     """Check that no pairs and threes lead from one drawing to the other."""
-    one, other = drawing_in(claim[1]), drawing_in(claim[2])
+    one, other = measured_in(claim[1]), measured_in(claim[2])
     return one is not None and other is not None and is_empty(paper) and not turn_alike(one, other)
 
 
 def turn_alike(one, other):
     """Tell whether the turns of both drawings are the same but for the sign."""
-    return abs(turns_of(one)) == abs(turns_of(other))
+    return abs(turns_measured(one)) == abs(turns_measured(other))
 
 
 def check_at_least(claim, paper):
     """Check that any pairs and threes that lead from one drawing to the other are so many at least."""
-    one, other = drawing_in(claim[1]), drawing_in(claim[2])
+    one, other = measured_in(claim[1]), measured_in(claim[2])
     if one is None or other is None or not is_count(claim[3]) or not isinstance(paper, tuple) or len(paper) != 2:
         return False
     if not are_numbers(one, paper[0]) or not are_numbers(other, paper[1]) or not turn_alike(one, other):
         return False
-    same = abs(same_way_of(one) - same_way_of(other)) // 2
-    opposite = abs(opposite_way_of(one) - opposite_way_of(other)) // 2
-    return claim[3] <= same + opposite + abs(three_ways_of(one) - three_ways_of(other))
+    same = abs(same_way_measured(one) - same_way_measured(other)) // 2
+    opposite = abs(opposite_way_measured(one) - opposite_way_measured(other)) // 2
+    return claim[3] <= same + opposite + abs(three_ways_measured(one) - three_ways_measured(other))
 
 
 def check_fewest_out(claim, paper):
@@ -183,8 +185,11 @@ def check_fewest_out(claim, paper):
         return False
     if not is_flat_or_nothing(without(row, paper)):
         return False
-    fewer = [lot for many in range(number) for lot in combinations(own, many)]
-    return not any([is_flat_or_nothing(without(row, lot)) for lot in fewer])
+    for many in range(number):
+        for lot in combinations(own, many):
+            if is_flat_or_nothing(without(row, lot)):
+                return False
+    return True
 
 
 def check_lines_flat(claim, paper):

@@ -355,4 +355,4 @@ class Alone(unittest.TestCase):
     def test_nothing_else_is_loaded(self):
         code = "import sys; import selfcrossed.checker; print(sorted(name for name in sys.modules if name.startswith('selfcrossed.')))"
         told = subprocess.run([sys.executable, "-c", code], cwd=FOLDER, capture_output=True, text=True, check=True).stdout.strip()
-        self.assertEqual(told, "['selfcrossed.checked_drawings', 'selfcrossed.checked_rows', 'selfcrossed.checker', 'selfcrossed.limits']")
+        self.assertEqual(told, "['selfcrossed.checked_drawings', 'selfcrossed.checked_moves', 'selfcrossed.checked_rows', 'selfcrossed.checker', 'selfcrossed.limits']")
