@@ -5,7 +5,7 @@ from selfcrossed.drawings import check_drawing, turned_out
 from selfcrossed.errors import NoMove
 from selfcrossed.history import History, Trial
 from selfcrossed.moves import check_move, drawing_led, loosening_of
-from selfcrossed.numbers import same_way_of, three_ways_of, turns_of
+from selfcrossed.numbers import same_way_of, three_ways_of, turns_in
 
 
 class Bench:
@@ -39,7 +39,7 @@ class Bench:
     @property
     def turns(self):
         """The turns of the drawing of now."""
-        return turns_of(self.drawing)
+        return turns_in(self.drawing)
 
     @property
     def same_way(self):

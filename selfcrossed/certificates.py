@@ -7,7 +7,7 @@ from selfcrossed.limits import MOST_SIDES
 from selfcrossed.lines import check_few_lines, flat_sides_of_lines
 from selfcrossed.links import linked_of
 from selfcrossed.moves import drawing_led, least_moves
-from selfcrossed.numbers import numbers_of_regions, same_way_of, three_ways_of, turns_of
+from selfcrossed.numbers import numbers_of_regions, same_way_of, three_ways_of, turns_in
 from selfcrossed.parts import fewest_out_of
 from selfcrossed.rows import begun_from, check_row, check_size, letters_of
 from selfcrossed.turnings import MOST_TOURED, check_turnings, check_web, rounds_of, tour_of, turnings_to
@@ -62,7 +62,7 @@ def certify_web(one, other):
 def certify_turns(drawing):
     """Certify the turns of the drawing."""
     check_drawing(drawing)
-    return ("turns", drawing.text, turns_of(drawing)), tuple(numbers_of_regions(drawing))
+    return ("turns", drawing.text, turns_in(drawing)), tuple(numbers_of_regions(drawing))
 
 
 def certify_same_way(drawing):
@@ -88,7 +88,7 @@ def certify_apart(one, other):
     """Certify that no pairs and threes lead from the one drawing to the other, None if their turns do not tell so."""
     check_drawing(one)
     check_drawing(other)
-    if abs(turns_of(one)) == abs(turns_of(other)):
+    if abs(turns_in(one)) == abs(turns_in(other)):
         return None
     return ("apart", one.text, other.text), ()
 

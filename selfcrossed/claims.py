@@ -6,7 +6,7 @@ from selfcrossed.flat import flat_sides_of, wrong_in
 from selfcrossed.handles import least_of
 from selfcrossed.integers import is_from_to
 from selfcrossed.links import linked_of
-from selfcrossed.numbers import three_ways_of, turns_of
+from selfcrossed.numbers import three_ways_of, turns_in
 from selfcrossed.rows import plain_of
 from selfcrossed.turnings import ALL_TURNINGS, MOST_TOURED, are_one_web, rounds_of
 
@@ -118,7 +118,7 @@ def ask_handles(things, claim):
 
 def ask_turns(things, claim):
     """Tell whether the drawing has so many turns, and how many it has."""
-    number = turns_of(things[claim[1]])
+    number = turns_in(things[claim[1]])
     return number == claim[2], number
 
 

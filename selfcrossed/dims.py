@@ -3,13 +3,13 @@
 from itertools import permutations
 
 from selfcrossed.errors import InvalidDim, InvalidIndex, InvalidPlace, InvalidRow
-from selfcrossed.flat import is_flat_row
+from selfcrossed.flat import flat_choice, is_flat_row
 from selfcrossed.handles import least_of
 from selfcrossed.integers import is_from_to
 from selfcrossed.limits import MOST_DIM, MOST_UNSEEN
 from selfcrossed.links import linked_of
 from selfcrossed.looks import first_looks, least_looks
-from selfcrossed.numbers import all_turns_of
+from selfcrossed.nests import turns_counted
 from selfcrossed.rows import ALPHABET, check_row, plain_of
 
 UNSEEN = "?"
@@ -84,7 +84,14 @@ def never_links(dim):
 def turns_of(dim):
     """Give all turns that some drawing of some filling has, ascending."""
     check_dim(dim)
-    return tuple(sorted({number for row in flat_fillings_of(dim) for number in all_turns_of(row)}))
+    found = set()
+    for row in fillings_of(dim):
+        told = flat_choice(row)
+        if told is not None:
+            sides, bunches = told
+            for number in turns_counted(row, sides, bunches):
+                found.add(number)
+    return tuple(sorted(found))
 
 
 def sure_pairs(dim):

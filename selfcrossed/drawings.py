@@ -7,10 +7,13 @@ in any order.
 from selfcrossed.errors import (
     InvalidNumber, InvalidOutside, InvalidRow, InvalidSides, InvalidText, NotADrawing, NotFlat,
 )
-from selfcrossed.flat import TURNED_OVER, flat_sides_of, is_flat_row, is_sides, region_at, regions_of
+from selfcrossed.flat import (
+    TURNED_OVER, are_evenly_apart, flat_sides_of, is_flat_row, is_sides, region_at, regions_of,
+)
 from selfcrossed.integers import is_from_to, is_integer
 from selfcrossed.rows import (
-    ALPHABET, begun_from, check_place, check_row, check_size, is_row, least_ways, letters_of, lines_of,
+    ALPHABET, all_rows, begun_from, check_place, check_row, check_size, is_begun_plain, is_row, least_ways, letters_of,
+    plain_of,
 )
 from selfcrossed.walks import edge_of, gone_as
 
@@ -18,24 +21,27 @@ MOST_DRAWN = 6
 MOST_COUNTED = 3
 
 
+class Found:
+    """The regions of a row with sides that are known to have no handles, and which of them is the outside.
+
+    It can be passed as the outside of a drawing where nothing is left to be asked.
+    """
+
+    def __init__(self, around, outer):
+        self.around = around
+        self.outer = outer
+
+
 class Drawing:
     """A row with sides that have no handles, and the region that is the outside."""
 
     def __init__(self, row, sides, outside):
-        if not is_row(row):
-            raise InvalidRow(row)
-        if not is_sides(row, sides):
-            raise InvalidSides(sides)
-        if not is_from_to(outside, -len(row), len(row) - 1):
-            raise InvalidOutside(outside)
-        found = regions_of(row, sides)
-        if not are_without_handles(row, found):
-            raise NotFlat()
+        found = outside if isinstance(outside, Found) else found_by(row, sides, outside)
         self._row = row
         self._sides = sides
-        self._regions = tuple(found)
-        self._outer = region_with(found, outside)
-        self._text = text_of((row, sides, self._outer))
+        self._regions = found.around
+        self._outer = found.outer
+        self._text = text_of((row, sides, found.outer))
 
     @staticmethod
     def read(text):
@@ -102,7 +108,7 @@ def turned_out(drawing, region):
     """Give the drawing with this region as the outside."""
     check_drawing(drawing)
     check_region(drawing, region)
-    return Drawing(drawing.row, drawing.sides, region[0])
+    return Drawing(drawing.row, drawing.sides, Found(drawing.regions, region))
 
 
 def plain_drawing(drawing):
@@ -131,7 +137,11 @@ def drawings_of(row):
     if not is_flat_row(row):
         raise NotFlat()
     check_size(row, MOST_DRAWN)
-    return tuple(plain_drawings_of(row))
+    least = plain_of(row)
+    told = unlike_drawings_of(least, least_ways(least)[1])
+    drawings = [Drawing(least, sides, found) for sides, found in told]
+    by_text = {drawing.text: drawing for drawing in drawings}
+    return tuple([by_text[text] for text in sorted(by_text)])
 
 
 def count_drawings(number):
@@ -139,7 +149,8 @@ def count_drawings(number):
     if not is_from_to(number, 1, MOST_COUNTED):
         raise InvalidNumber(number)
     # Drawings of unlike plain rows are unlike.
-    return sum([len(plain_drawings_of(line)) for line in lines_of(number)])
+    told = {row: least_ways(row) for row in all_rows(number) if are_evenly_apart(row) and is_begun_plain(row)}
+    return sum([len(unlike_drawings_of(row, told[row][1])) for row in told if told[row][0] == row])
 
 
 def check_drawing(drawing):
@@ -155,6 +166,20 @@ def check_region(drawing, region):
         raise InvalidOutside(region)
     if region not in drawing.regions:
         raise InvalidOutside(region)
+
+
+def found_by(row, sides, outside):
+    """Find the regions of what is to be a drawing, or raise the error for what makes none."""
+    if not is_row(row):
+        raise InvalidRow(row)
+    if not is_sides(row, sides):
+        raise InvalidSides(sides)
+    if not is_from_to(outside, -len(row), len(row) - 1):
+        raise InvalidOutside(outside)
+    around = tuple(regions_of(row, sides))
+    if not are_without_handles(row, around):
+        raise NotFlat()
+    return Found(around, region_with(around, outside))
 
 
 def are_without_handles(row, found):
@@ -300,17 +325,72 @@ def are_same_drawings(one, other):
     return plain_told(told_of(one)) == plain_told(told_of(other))
 
 
-def plain_drawings_of(row):
-    """List the unlike plain drawings of all drawings of the row, ascending by their texts."""
-    # The ways are the same for all drawings of the row.
-    least, ways = least_ways(row)
-    found = {}
-    for sides in flat_sides_of(row):
-        least_sides, fitting = sides_along(row, sides, least, ways)
-        for region in regions_of(row, sides):
-            found[(least_sides, least_along(region, len(row), fitting))] = True
-    drawings = {}
-    for least_sides, element in found:
-        drawing = Drawing(least, least_sides, element)
-        drawings[drawing.text] = drawing
-    return [drawings[text] for text in sorted(drawings)]
+def unlike_drawings_of(least, own_ways):
+    """List the sides, and the regions with the outside, of all unlike plain drawings of a plain row.
+
+    The row becomes itself along its own ways, told as by `least_ways`.
+    """
+    drawings = []
+    for sides, ways in unlike_sides_of(least, own_ways):
+        around = tuple(regions_of(least, sides))
+        drawings.extend([(sides, Found(around, region)) for region in unlike_regions(around, len(least), ways)])
+    return drawings
+
+
+def unlike_regions(around, size, ways):
+    """List those of the regions of a row of so many places that none of these ways makes a lesser one."""
+    if len(ways) == 1:
+        # Only the way that changes nothing is among them.
+        return list(around)
+    index_at = {element: index for index, region in enumerate(around) for element in region}
+    known = {}
+    found = []
+    for index, region in enumerate(around):
+        if index not in known:
+            found.append(region)
+            for element in along_all(region[0], size, ways):
+                known[index_at[element]] = True
+    return found
+
+
+def along_all(element, size, ways):
+    """List what the element becomes along these ways in a row of so many places."""
+    edge = edge_of(element)
+    found = []
+    for start, turn in ways:
+        new_edge = (size - 2 - edge - start if turn == 1 else edge - start) % size
+        # Read backwards, what was gone forwards is gone backwards.
+        found.append(new_edge if (element >= 0) == (turn == 0) else -1 - new_edge)
+    return found
+
+
+def unlike_sides_of(least, ways):
+    """List the sides without handles of a plain row that are least along all ways on which the row becomes itself.
+
+    With each of them stand the ways along which they become themselves.
+    """
+    seen_along = indexes_along(least, ways)
+    known = {}
+    found = []
+    for sides in flat_sides_of(least):
+        if sides not in known:
+            both = sides + turned_over(sides)
+            made = ["".join([both[index] for index in indexes]) for indexes in seen_along]
+            known.update({other: True for other in made})
+            found.append((sides, [way for way, other in zip(ways, made) if other == sides]))
+    return found
+
+
+def indexes_along(least, ways):
+    """List for each of these ways where the sides of a plain row, ascending, are found along it.
+
+    They are indexes of all sides followed by all sides turned over.
+    """
+    size = len(least)
+    # From the letter's later place the passings are exchanged.
+    seen = [
+        ALPHABET.find(letter) + (0 if least.find(letter) == place else size // 2) for place, letter in enumerate(least)
+    ]
+    by_turn = (seen + seen, (seen + seen)[::-1])
+    firsts = [least.find(letter) for letter in ALPHABET[:size // 2]]
+    return [[by_turn[turn][start + place] for place in firsts] for start, turn in ways]

@@ -116,27 +116,44 @@ def handles_with(row, number):
     return (len(row) // 2 + 2 - number) // 2
 
 
+def flat_choice(row):
+    """Give sides without handles and the bunches of what is known to be a row, None if it is not flat."""
+    if not are_evenly_apart(row):
+        return None
+    told = sides_by_touches(row)
+    return told if told is not None and handles_of(row, told[0]) == 0 else None
+
+
+def are_evenly_apart(row):
+    """Tell whether evenly many places are between those of each letter, so that it is linked with evenly many."""
+    return set(row[::2]) == set(row[1::2])
+
+
 def flat_sides_of(row):
     """List all sides without handles, ascending, of what is known to be a row."""
-    told = sides_by_touches(row)
-    if told is None or handles_of(row, told[0]) > 0:
+    told = flat_choice(row)
+    if told is None:
         return []
     sides, lots = told
-    found = [sides]
+    own = letters_of(row)
+    # Sides are told by a number here, whose binary digits are 1 where they have a minus, so that it ascends with them.
+    bits = {letter: 1 << index for index, letter in enumerate(reversed(own))}
+    found = [sum([bits[letter] for letter, side in zip(own, sides) if side == "-"])]
     for lot in lots:
-        found = found + [turned_at(each, letters_of(row), lot) for each in found]
-    return sorted(found)
+        turned = sum([bits[letter] for letter in lot])
+        found = found + [number ^ turned for number in found]
+    return [sides_told(number, len(own)) for number in sorted(found)]
 
 
-def turned_at(sides, letters, lot):
-    """Turn over the sides of those of the letters that are in the lot."""
-    return "".join([TURNED_OVER[side] if letter in lot else side for side, letter in zip(sides, letters)])
+def sides_told(number, size):
+    """Write so many sides that are told by the binary digits of the number."""
+    digits = f"{number:010b}"
+    return digits[-size:].replace("0", "+").replace("1", "-")
 
 
 def is_flat_row(row):
     """Tell whether what is known to be a row is flat."""
-    told = sides_by_touches(row)
-    return told is not None and handles_of(row, told[0]) == 0
+    return flat_choice(row) is not None
 
 
 def are_links_flat(linked):

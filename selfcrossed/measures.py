@@ -3,9 +3,8 @@
 With another outside all numbers are less by the number that it has here.
 """
 
-from selfcrossed.flat import corners_of, flat_sides_of
 from selfcrossed.rows import letters_of
-from selfcrossed.walks import edge_of, first_elements, onward_by
+from selfcrossed.walks import edge_of
 
 
 def lefts_from(row, sides):
@@ -41,52 +40,16 @@ def signs_from(row, sides, edge):
     return found
 
 
-def turns_from(row, sides):
-    """Give the turns that there are if the region to the left of the edge 0 is the outside."""
-    # Twice the mean of that edge is -1 then.
-    return sum(signs_from(row, sides, 0)) - 1
-
-
 def same_way_from(of_regions, of_letters):
     """Give P by the numbers of all regions and of all letters."""
     squares = sum([number * number for number in of_regions]) - sum([number * number for number in of_letters])
     return 1 + len(of_letters) - squares
 
 
-def turns_of_half(row):
-    """List the turns of half of all flat sides with each outside.
+def same_way_with(size, squares, numbers, outside):
+    """Give P if a region with this number is the outside, so that all numbers are less by it.
 
-    The other half are the mirrors of these, which have the opposite turns.
+    The sums of the numbers of all regions, and of their squares, less those of all letters, are told without it.
     """
-    found = []
-    for sides, _, numbers in half_of_all(row):
-        own = turns_from(row, sides)
-        found.extend([own - 2 * number for number in numbers])
-    return found
-
-
-def least_same_way_of(row):
-    """Give the least P that flat sides with any outside have."""
-    found = []
-    for _, lefts, numbers in half_of_all(row):
-        of_letters = numbers_at_letters(row, lefts)
-        # A mirror has the same P, and so have all outsides with one number.
-        for outside in sorted(set(numbers)):
-            less = [number - outside for number in numbers]
-            found.append(same_way_from(less, [number - outside for number in of_letters]))
-    return min(found)
-
-
-def half_of_all(row):
-    """List for half of all flat sides the sides, the numbers to the left of the edges and those of the regions.
-
-    The other half are the mirrors of these.
-    """
-    corners = corners_of(row)
-    found = []
-    for sides in flat_sides_of(row):
-        if sides[0] == "+":
-            lefts = lefts_from(row, sides)
-            firsts = first_elements(onward_by(corners, sides))
-            found.append((sides, lefts, [number_beside(lefts, element) for element in firsts]))
-    return found
+    # There are two more regions than letters.
+    return 1 + size - (squares - 2 * outside * numbers + 2 * outside * outside)

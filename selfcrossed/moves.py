@@ -7,7 +7,7 @@ from selfcrossed.drawings import (
 from selfcrossed.errors import InvalidMove, InvalidMoves, InvalidNumber, TooMany
 from selfcrossed.integers import is_from_to, is_integer
 from selfcrossed.limits import MOST_LED, MOST_LETTERS, MOST_MOVES
-from selfcrossed.numbers import same_way_of, three_ways_of, turns_of
+from selfcrossed.numbers import same_way_of, three_ways_of, turns_in
 from selfcrossed.rows import least_ways
 from selfcrossed.walks import edge_of
 
@@ -99,7 +99,7 @@ def without_loops(one, other, number):
     """Give the least number of moves without loops that lead from the one drawing to the other, None if none do."""
     check_search(one, other, number)
     # Without loops the turns stay, but for the sign.
-    if abs(turns_of(one)) != abs(turns_of(other)):
+    if abs(turns_in(one)) != abs(turns_in(other)):
         return None
     return fewest_with(one, other, number, moves_within_without_loops)
 
@@ -113,7 +113,7 @@ def least_moves_of(one, other):
 
 def least_moves(one, other):
     """Give what `least_moves_of` tells of what are known to be drawings."""
-    if abs(turns_of(one)) != abs(turns_of(other)):
+    if abs(turns_in(one)) != abs(turns_in(other)):
         return None
     apart = [abs(old - new) for old, new in zip(five_numbers(one), five_numbers(other))]
     return apart[2] // 2, apart[3] // 2, apart[4]
@@ -270,7 +270,7 @@ def loosening_of(drawing):
 def five_numbers(drawing):
     """List the number of letters, the turns, P, M and S."""
     same = same_way_of(drawing)
-    return [drawing.size, turns_of(drawing), same, same - drawing.size, three_ways_of(drawing)]
+    return [drawing.size, turns_in(drawing), same, same - drawing.size, three_ways_of(drawing)]
 
 
 def fewest_with(one, other, number, list_moves):

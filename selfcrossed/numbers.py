@@ -2,12 +2,11 @@
 
 from selfcrossed.drawings import Drawing, check_drawing
 from selfcrossed.errors import InvalidAreas, InvalidNumber, NotFlat
-from selfcrossed.flat import flat_sides_of, is_flat_row
+from selfcrossed.flat import flat_choice, flat_sides_of
 from selfcrossed.integers import is_from_to
 from selfcrossed.limits import MOST_AREA, MOST_SIDES
-from selfcrossed.measures import (
-    least_same_way_of, lefts_from, number_beside, numbers_at_letters, same_way_from, signs_from, turns_of_half,
-)
+from selfcrossed.measures import lefts_from, number_beside, numbers_at_letters, same_way_from, signs_from
+from selfcrossed.nests import least_same_way_of, turns_counted
 from selfcrossed.rows import ALPHABET, check_place, check_row, check_size
 
 MOST_ASKED = 100
@@ -43,7 +42,7 @@ def twice_mean(drawing, edge):
 def turns(drawing):
     """Give the turns of the drawing."""
     check_drawing(drawing)
-    return turns_of(drawing)
+    return turns_in(drawing)
 
 
 def same_way(drawing):
@@ -86,21 +85,20 @@ def rings(drawing):
 
 def most_turns(row):
     """Give the greatest number of turns that a drawing of the row has."""
-    check_flat(row)
-    return max([abs(number) for number in turns_of_half(row)])
+    sides, bunches = flat_told(row)
+    return max(turns_counted(row, sides, bunches))
 
 
 def least_same_way(row):
     """Give the least P that a drawing of the row has."""
-    check_flat(row)
-    return least_same_way_of(row)
+    sides, bunches = flat_told(row)
+    return least_same_way_of(row, sides, bunches)
 
 
 def turns_spread(row):
     """Give the pairs of turns and how many flat sides with an outside have so many, ascending."""
-    check_flat(row)
-    found = all_turns_of(row)
-    return tuple([(number, found.count(number)) for number in sorted(set(found))])
+    sides, bunches = flat_told(row)
+    return tuple(sorted(turns_counted(row, sides, bunches).items()))
 
 
 def outsides_with(drawing, number):
@@ -135,12 +133,14 @@ def check_sizes(drawing, sizes):
             raise InvalidAreas(index)
 
 
-def check_flat(row):
-    """Raise the error for what is no flat row of at most eight letters."""
+def flat_told(row):
+    """Give sides without handles and the bunches, or raise the error for what is no flat row of up to eight letters."""
     check_row(row)
-    if not is_flat_row(row):
+    told = flat_choice(row)
+    if told is None:
         raise NotFlat()
     check_size(row, MOST_SIDES)
+    return told
 
 
 def lefts_of(drawing):
@@ -171,7 +171,7 @@ def twice_mean_of(drawing, edge):
     return 2 * lefts_of(drawing)[edge] - 1
 
 
-def turns_of(drawing):
+def turns_in(drawing):
     """Give the turns of what is known to be a drawing."""
     return twice_mean_of(drawing, 0) + sum(signs_of(drawing, 0))
 
@@ -213,14 +213,8 @@ def other_place(row, place):
 def outsides_for(drawing, number):
     """List the regions, ascending, with which as the outside the drawing has so many turns."""
     # With another outside all numbers have the new one's taken from them, and the signs stay.
-    own = turns_of(drawing)
+    own = turns_in(drawing)
     return [region for region, told in zip(drawing.regions, numbers_of_regions(drawing)) if own - 2 * told == number]
-
-
-def all_turns_of(row):
-    """List the turns of all flat sides with each outside."""
-    found = turns_of_half(row)
-    return found + [-number for number in found]
 
 
 def letters_for_turns(number):

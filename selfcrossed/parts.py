@@ -4,11 +4,11 @@ from itertools import combinations
 
 from selfcrossed.drawings import check_drawing
 from selfcrossed.errors import TooMany
-from selfcrossed.flat import are_links_flat, handles_of, is_flat_row
+from selfcrossed.flat import are_links_flat, is_flat_row
 from selfcrossed.handles import least_of
 from selfcrossed.limits import MOST_LETTERS, MOST_SIDES
 from selfcrossed.links import linked_of
-from selfcrossed.rows import ALPHABET, check_row, check_size, letters_of, plain_of
+from selfcrossed.rows import ALPHABET, check_row, check_size, least_ways, letters_of, plain_of
 
 
 def fewest_out(row):
@@ -57,7 +57,9 @@ def ways_in(drawing):
     check_drawing(drawing)
     if drawing.size == MOST_LETTERS:
         raise TooMany(MOST_LETTERS)
-    return tuple([pair for pair in pairs_of_edges(drawing.row) if is_way_in(drawing, pair)])
+    # A letter linked with the new one would be linked with oddly many then. So the new one is to be a bunch by itself,
+    # and the others keep their sides.
+    return tuple(pairs_around(drawing.row, ""))
 
 
 def crossed_once(row):
@@ -65,8 +67,14 @@ def crossed_once(row):
     check_row(row)
     if len(row) >= 2 * MOST_SIDES:
         raise TooMany(MOST_SIDES)
-    made = [with_letter(row, pair) for pair in pairs_of_edges(row)]
-    return tuple(sorted({plain_of(other) for other in made if is_flat_row(other)}))
+    least = plain_of(row)
+    linked = linked_of(least)
+    # The new letter is to be linked just with those that are linked with oddly many. So all rows that are made have the
+    # same links, and all of them are flat or none is.
+    pairs = pairs_around(least, [letter for letter in linked if len(linked[letter]) & 1 == 1])
+    if not pairs or not is_flat_row(with_letter(least, pairs[0])):
+        return ()
+    return tuple(sorted({plain_of(with_letter(least, pair)) for pair in unlike_pairs(least, pairs)}))
 
 
 def fewest_out_of(row):
@@ -118,9 +126,37 @@ def is_flat_exchanged(row, place):
     return is_flat_row("".join(signs))
 
 
-def pairs_of_edges(row):
-    """List the pairs of edges, the first one at most the second one, ascending."""
-    return [(one, other) for one in range(len(row)) for other in range(one, len(row))]
+def pairs_around(row, letters):
+    """List the pairs of edges, the first one at most the second one, ascending, between which just these stand once."""
+    bits = {letter: 1 << index for index, letter in enumerate(letters_of(row))}
+    goal = sum([bits[letter] for letter in letters])
+    size = len(row)
+    # For each edge which letters stand just once up to it.
+    once = [bits[row[0]]]
+    for letter in row[1:]:
+        once.append(once[-1] ^ bits[letter])
+    return [(one, other) for one in range(size) for other in range(one, size) if once[one] ^ once[other] == goal]
+
+
+def unlike_pairs(least, pairs):
+    """List those of the pairs of edges of a plain row that no way of the row to itself makes one listed before."""
+    ways = least_ways(least)[1]
+    known = {}
+    found = []
+    for pair in pairs:
+        if pair not in known:
+            found.append(pair)
+            for way in ways:
+                one, other = [edge_begun(edge, len(least), way) for edge in pair]
+                known[(min(one, other), max(one, other))] = True
+    return found
+
+
+def edge_begun(edge, size, way):
+    """Give what the edge becomes when a row of so many places is begun and read so."""
+    start, turn = way
+    # Read backwards, an edge is told from behind.
+    return ((size - 2 - edge if turn == 1 else edge) - start) % size
 
 
 def first_unused(row):
@@ -133,11 +169,3 @@ def with_letter(row, pair):
     one, other = pair
     new = first_unused(row)
     return row[:one + 1] + new + row[one + 1:other + 1] + new + row[other + 1:]
-
-
-def is_way_in(drawing, pair):
-    """Tell whether the row with a new letter on both edges has no handles with the sides of the drawing."""
-    row = with_letter(drawing.row, pair)
-    index = letters_of(row).find(first_unused(drawing.row))
-    ahead, behind = drawing.sides[:index], drawing.sides[index:]
-    return any([handles_of(row, ahead + side + behind) == 0 for side in "+-"])

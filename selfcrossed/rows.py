@@ -90,8 +90,7 @@ def nth_row(number, index):
 def lines_of(number):
     """Give the ascending tuple of all plain rows with so many letters."""
     check_number(number, MOST_LISTED)
-    rows = [row_at(number, index) for index in range(count_ends(0, number))]
-    return tuple([row for row in rows if plain_of(row) == row])
+    return tuple([row for row in all_rows(number) if is_begun_plain(row) and plain_of(row) == row])
 
 
 def check_row(row):
@@ -156,6 +155,11 @@ def plain_of(row):
     return least_ways(row)[0]
 
 
+def is_begun_plain(row):
+    """Tell whether no letter comes again sooner than the first one, as in plain rows."""
+    return row.rfind(row[0]) == min(distances_back(row))
+
+
 def least_ways(row):
     """Give the plain row and the ways to begin and to go that lead to it.
 
@@ -218,6 +222,21 @@ def count_ends(waiting, unused):
     for mates in range(1, 2 * unused, 2):
         ways = ways * mates
     return ways
+
+
+def all_rows(number):
+    """List all rows with so many letters, these coming first in the order of the alphabet, ascending."""
+    # Each one as far as it is built, with the letters that wait for their second place.
+    made = [("", "")]
+    for _ in range(2 * number):
+        following = []
+        for row, waiting in made:
+            following.extend([(row + letter, waiting.replace(letter, "")) for letter in waiting])
+            used = (len(row) + len(waiting)) // 2
+            if used < number:
+                following.append((row + ALPHABET[used], waiting + ALPHABET[used]))
+        made = following
+    return [row for row, _ in made]
 
 
 def row_at(number, index):

@@ -4,9 +4,9 @@ from selfcrossed.errors import InvalidTurnings
 from selfcrossed.limits import MOST_SIDES
 from selfcrossed.links import rank_of, table_of
 from selfcrossed.rows import check_row, check_size, letters_of, plain_of
-from selfcrossed.strings import all_strings
 from selfcrossed.sweeps import counted_walks
 from selfcrossed.walks import edge_of, edges_into, end_of, leaving, onward_by, walk_from, walks_of
+from selfcrossed.webs import by_turning, ends_of, namings_of, plain_tours_of, straight_ends
 
 MOST_TOURED = 6
 ALL_TURNINGS = "=ox"
@@ -106,17 +106,29 @@ def check_web(one, other):
 
 def are_one_web(one, other):
     """Tell whether both, known to be rows, have one web."""
-    return turnings_to(one, other) is not None
+    return namings_of(one, other) != []
 
 
 def turnings_to(one, other):
     """Give what `turnings_between` tells of what are known to be rows."""
-    if len(one) != len(other):
+    all_namings = namings_of(one, other)
+    if not all_namings:
         return None
-    goal = plain_of(other)
-    for turnings, row in all_tours_of(one):
-        if plain_of(row) == goal:
-            return turnings
+    joints, goal, straight = joints_of(one), plain_of(other), straight_ends(other)
+    own = letters_of(one)
+    ends = ends_of(one)
+    # Turnings begun so as to fit at each letter, each with the namings with which they do; the last ones come first.
+    waiting = [("", all_namings)]
+    while waiting:
+        turnings, namings = waiting.pop()
+        index = len(turnings)
+        if index == len(own):
+            tour = tour_along(one, onward_by(joints, turnings))
+            if tour is not None and plain_of(tour) == goal:
+                return turnings
+        else:
+            fitting = by_turning(namings, index, [own.find(end) for end in ends[own[index]]], straight)
+            waiting.extend([(turnings + sign, fitting[sign]) for sign in "xo=" if fitting[sign]])
     return None
 
 
@@ -166,19 +178,6 @@ def tour_along(row, onward):
     if len(walk) < len(row):
         return None
     return "".join([row[end_of(element, len(row))] for element in walk])
-
-
-def all_tours_of(row):
-    """List all turnings that make one round, ascending, each with the tour that they make."""
-    joints = joints_of(row)
-    all_turnings = all_strings(ALL_TURNINGS, len(row) // 2)
-    made = [(turnings, tour_along(row, onward_by(joints, turnings))) for turnings in all_turnings]
-    return [(turnings, tour) for turnings, tour in made if tour is not None]
-
-
-def plain_tours_of(row):
-    """List the plain rows, unlike ones, of all tours of the row, ascending."""
-    return sorted({plain_of(other) for _, other in all_tours_of(row)})
 
 
 def rounds_counted(row, kinds):

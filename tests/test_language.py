@@ -42,6 +42,9 @@ BARRED_NODES = (
     ast.MatchClass, ast.MatchMapping,
 )
 MODULE_LEVEL = (ast.ImportFrom, ast.FunctionDef, ast.ClassDef, ast.Assign)
+CHANGING = set("append clear extend insert pop remove reverse setdefault update sort add discard".split())
+WALKERS = {"enumerate", "zip", "reversed", "map"}
+OPERATORS = {"__eq__", "__repr__", "__str__", "__len__", "__contains__"}
 OWN_NAMES = {"__init__", "__eq__", "__enter__", "__exit__", "__contains__", "__all__", "__version__"}
 DECORATORS = re.compile(r"property|staticmethod|classmethod|\w+\.setter")
 
@@ -86,6 +89,70 @@ def bound_names(file):
 
 def imports_of(file):
     return {node.module for node in nodes_of(file, ast.ImportFrom) if node.module.startswith("selfcrossed")}
+
+
+def walked_in(walked):
+    """What a loop over this walks, as it is written: also through `enumerate` and the like, but not through a copy."""
+    if isinstance(walked, (ast.Name, ast.Attribute, ast.Subscript)):
+        return {ast.unparse(walked)}
+    if isinstance(walked, ast.IfExp):
+        return walked_in(walked.body) | walked_in(walked.orelse)
+    if isinstance(walked, ast.BoolOp):
+        return {told for each in walked.values for told in walked_in(each)}
+    if isinstance(walked, ast.Call):
+        called = ast.unparse(walked.func)
+        if called in WALKERS:
+            return {told for each in walked.args for told in walked_in(each)}
+        if called.endswith((".items", ".keys", ".values")):
+            return {called.rpartition(".")[0]}
+    return set()
+
+
+def changed_in(rows):
+    """What is changed in these rows, as it is written: by its items, by a method, by `+=`."""
+    found = set()
+    for node in [node for row in rows for node in ast.walk(row)]:
+        targets = node.targets if isinstance(node, (ast.Assign, ast.Delete)) else [getattr(node, "target", None)]
+        for target in [each for told in targets if told is not None for each in ast.walk(told)]:
+            if isinstance(target, ast.Subscript):
+                found.add(ast.unparse(target.value))
+        if isinstance(node, ast.AugAssign):
+            found.add(ast.unparse(node.target))
+        if isinstance(node, ast.Call) and isinstance(node.func, ast.Attribute) and node.func.attr in CHANGING:
+            found.add(ast.unparse(node.func.value))
+    return found
+
+
+def called_in(function):
+    """The names of what is called in a function, of functions and of methods."""
+    calls = [node.func for node in ast.walk(function) if isinstance(node, ast.Call)]
+    return {call.id if isinstance(call, ast.Name) else call.attr for call in calls}
+
+
+def own_functions():
+    """For each name of a function or a method of the package all those that have it."""
+    found = {}
+    for file in FILES:
+        for node in nodes_of(file, ast.FunctionDef):
+            found.setdefault(node.name, []).append(node)
+    return found
+
+
+def is_property(function):
+    return any(ast.unparse(decorator) == "property" for decorator in function.decorator_list)
+
+
+def made_here(function):
+    """The names to which a function gives lists that it creates."""
+    lists = (ast.List, ast.ListComp)
+    assigned = [node for node in ast.walk(function) if isinstance(node, ast.Assign) and isinstance(node.value, lists)]
+    return {ast.unparse(target) for node in assigned for target in node.targets}
+
+
+def attributes_set(function):
+    """The attributes that are assigned in a function."""
+    stored = [node for node in ast.walk(function) if isinstance(node, ast.Attribute)]
+    return [ast.unparse(node) for node in stored if not isinstance(node.ctx, ast.Load)]
 
 
 def for_each_file(check):
@@ -222,3 +289,28 @@ class Language(unittest.TestCase):
         given = [node.arg for node in nodes_of(file, ast.arg)]
         given += [node.id for node in nodes_of(file, ast.Name) if isinstance(node.ctx, ast.Store)]
         self.assertEqual(held & set(given), set())
+
+    @for_each_file
+    def test_no_loop_changes_what_it_walks(self, file):
+        for node in nodes_of(file, ast.For):
+            self.assertEqual(walked_in(node.iter) & changed_in(node.body), set(), f"row {node.lineno}")
+        for node in nodes_of(file, ast.ListComp, ast.DictComp, ast.SetComp):
+            for each in node.generators:
+                self.assertEqual(walked_in(each.iter) & changed_in([node]), set(), f"row {node.lineno}")
+
+    def test_properties_and_operators_change_nothing(self):
+        functions = own_functions()
+        reached = [each for told in functions.values() for each in told if is_property(each) or each.name in OPERATORS]
+        names = set()
+        for function in reached:
+            # What stands for an item or an attribute that is set is no list that the function created.
+            self.assertLessEqual(changed_in(function.body), made_here(function), function.name)
+            self.assertEqual(attributes_set(function), [], function.name)
+            parameters = {each.arg for each in function.args.args}
+            for name in sorted(called_in(function) - names):
+                # A name stands for all functions that have it, and what is passed may be any function.
+                self.assertNotIn(name, parameters, function.name)
+                self.assertLessEqual(len(functions.get(name, [])), 1, f"{name}, called in {function.name}")
+                names.add(name)
+                reached.extend(functions.get(name, []))
+        self.assertLessEqual({"turns_in", "same_way_of", "three_ways_of", "is_name_of"}, names)
